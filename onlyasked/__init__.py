@@ -1,0 +1,1 @@
+"""Onlyasked: what rules over facts settle, and what is worth asking next."""
