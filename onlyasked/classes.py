@@ -2,7 +2,8 @@
 
 from onlyasked.errors import NoWorld, TooLarge
 from onlyasked.logic import place_holds
-from onlyasked.worlds import givens_hold
+from onlyasked.sources import told_by
+from onlyasked.worlds import decided, givens_hold
 
 MOST_WORLDS = 400
 
@@ -66,3 +67,18 @@ def find_mark_worlds(program):
     if not found:
         raise NoWorld(None)
     return tuple(found)
+
+
+def find_results(program):
+    """The pair (outcome, row) of each world whose values are marks."""
+    return tuple([decided(program, world) for world in program.mark_worlds])
+
+
+def find_told_worlds(program):
+    """For each name and each mark (of a maybe source whether it is there) the worlds that tell so (agreeing.py)."""
+    found = {name: {} for name in program.names}
+    for at, world in enumerate(program.mark_worlds):
+        told = told_by(program.parts, world)
+        for name, value in told.items():
+            found[name][value] = found[name].get(value, 0) + (1 << at)
+    return found

@@ -1,7 +1,7 @@
 """Programs of rules, read from their lines."""
 
 from onlyasked.checks import fields_by_name, ordered_rules, refuse_doubled, refuse_unnamed
-from onlyasked.classes import find_classes, find_mark_worlds, refuse_too_large
+from onlyasked.classes import find_classes, find_mark_worlds, find_results, find_told_worlds, refuse_too_large
 from onlyasked.drafts import read_draft
 from onlyasked.logic import places
 
@@ -22,7 +22,8 @@ class Program:
     For the package it also has: round_price; parts, its Source objects; fields, its Field objects by names as in
     "person.age"; givens, their expressions; rules, pairs (name, expression), each behind those that it names; rows,
     pairs (outcome, expression) of the decide lines; otherwise, the outcome of the last row; mark_worlds, all worlds
-    whose values are marks.
+    whose values are marks; results, a pair (outcome, row) for each of them; told_worlds, for each name and mark the
+    worlds that tell so (agreeing.py).
     """
 
     def __init__(self, text):
@@ -52,3 +53,5 @@ class Program:
             find_classes(field, found.get(field.name, []))
         refuse_too_large(self.parts)
         self.mark_worlds = find_mark_worlds(self)
+        self.results = find_results(self)
+        self.told_worlds = find_told_worlds(self)

@@ -23,12 +23,17 @@ def is_world(program, value):
     return are_answers(program.parts, value) and givens_hold(program, value)
 
 
-def evaluate(program, world):
-    """The pair (outcome, row) in a world; BadWorld(value) for any value that is none."""
-    if not is_world(program, world):
-        raise BadWorld(world)
+def decided(program, world):
+    """The pair (outcome, row) in what is a world."""
     held = what_holds(program, world)
     for row, (outcome, tree) in enumerate(program.rows):
         if holds(tree, held):
             return (outcome, row)
     return (program.otherwise, len(program.rows))
+
+
+def evaluate(program, world):
+    """The pair (outcome, row) in a world; BadWorld(value) for any value that is none."""
+    if not is_world(program, world):
+        raise BadWorld(world)
+    return decided(program, world)

@@ -2,6 +2,7 @@
 
 from onlyasked.facts import Facts
 from onlyasked.programs import Program
+from onlyasked.standings import Known
 
 LOAN = """round 1
 source person price 2 stay 2
@@ -22,6 +23,16 @@ otherwise look"""
 FIVE = "round 0\nsource a price 1 maybe\n  n 0..9\ndecide go if not a.n > 4\notherwise halt"
 SIX = "round 0\nsource a price 1\n  n 0..9\n  w lo mid hi\ndecide go if a.n > 4 and a.w = mid\notherwise halt"
 
+EIGHT = ("round 0\nsource a price 1\n  x yes\n  y yes\n  z yes\n"
+         "decide grant if points(1 a.x, 1 a.y, 1 a.z) > 1\notherwise refuse")
+BOTH = ("round 1\nsource a price 1 stay 0\n  x yes\nsource b price 1 stay 0\n  x yes\n"
+        "decide grant if a.x and b.x\notherwise refuse")
+POINTER = ("round 1\nsource s price 1\n  side left right\nsource u price 5\n  told good bad dunno\n"
+           "source v price 5\n  told good bad dunno\n"
+           "given s.side = left and not u.told = dunno and v.told = dunno or "
+           "s.side = right and u.told = dunno and not v.told = dunno\n"
+           "decide grant if u.told = good or v.told = good\notherwise refuse")
+
 HEAD = ("round 0", "source a price 1", "  n -5..9", "  w lo mid hi", "  b yes", "source m price 1 maybe", "  x yes")
 
 
@@ -33,7 +44,7 @@ def any_values():
     return [
         0, 1, -1, 10 ** 30, True, False, None, "", "a", "a.n", "\n", "x" * 20000, (), (1,), ((),), ((None,),), [], ["a"],
         {}, {"a": 1}, [()], ([],), ({},), tuples, lists, dicts, (tuples, lists, dicts), Facts(), Facts((("a.n", 1),)),
-        Program(FIVE),
+        Program(FIVE), Known(), Known((("a.n", 1, None),)),
     ]
 
 
@@ -60,3 +71,8 @@ def same(one, other):
     if isinstance(one, (tuple, list)):
         return len(one) == len(other) and all(same(x, y) for x, y in zip(one, other))
     return one == other
+
+
+def facts_of(**told):
+    """Facts by names in which `_` stands for the point."""
+    return Facts(tuple([(name.replace("_", "."), value) for name, value in told.items()]))
