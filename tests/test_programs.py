@@ -353,5 +353,256 @@ class NoWorldTest(unittest.TestCase):
         self.assertEqual(len(Program(with_rows("given a.n > 8", "given not there m")).mark_worlds), 1)
 
 
+class BoundsTest(unittest.TestCase):
+    """Each bound of the lines, just at it and just beyond it."""
+
+    def check(self, template, line, good, bad):
+        """Whether a text is a program with each of the good ones in it, and has this bad line with the bad ones."""
+        for one in good:
+            with self.subTest((template, one)):
+                Program(template.format(one))
+        for one in bad:
+            with self.subTest((template, one)):
+                self.assertEqual(bad_line(template.format(one)), line)
+
+    def test_rounds_prices_and_stays(self):
+        rest = "\nsource a price 1\n  x yes\notherwise go"
+        self.check("round {}" + rest, 0, range(10), [-1, 10, 11, 99, "00", "1.0", "one", ""])
+        for tail in ("", " stay 0", " stay 3", " maybe", " common", " stay 1 maybe common"):
+            self.check("round 0\nsource a price {}" + tail + "\n  x yes\notherwise go", 1, range(1, 10), [-1, 0, 10, 11, "09"])
+        for tail in ("", " maybe", " common", " maybe common"):
+            self.check("round 0\nsource a price 1 stay {}" + tail + "\n  x yes\notherwise go", 1, range(4), [-1, 4, 5, 10, "00", "ever"])
+
+    def test_integers_of_a_field(self):
+        text = "round 0\nsource a price 1\n  x {}\notherwise go"
+        self.check(text, 2, ["-1000000..-1000000", "1000000..1000000", "-1000000..1000000", "-1..0", "0..0", "999999..1000000"],
+                   ["-1000001..0", "0..1000001", "1000001..1000001", "-1000001..-1000001", "1..0", "0..-1", "-1..-2", "1000000..999999",
+                    "0000000..1", "0..01", "-0..0", "0..-0", "0..10000000", "-10000000..0"])
+
+    def test_words_of_a_field(self):
+        words = [chr(97 + at) * 3 for at in range(10)]
+        text = "round 0\nsource a price 1\n  x {}\notherwise go"
+        self.check(text, 2, [" ".join(words[:many]) for many in range(2, 9)], [" ".join(words[:many]) for many in (0, 1, 9, 10)])
+
+    def test_numbers_of_lines(self):
+        for many in range(1, 6):
+            Program("\n".join(["round 0", *[f"source {name} price 1\n  x yes" for name in "abcde"[:many]], "otherwise go"]))
+        self.assertEqual(bad_line("round 0\notherwise go"), 1)
+        six = "\n".join(["round 0", *[f"source {name} price 1\n  x yes" for name in "abcdef"], "otherwise go"])
+        self.assertEqual(bad_line(six), 11)
+        for many in range(1, 5):
+            Program("\n".join(["round 0", "source a price 1", *[f"  {name} yes" for name in "abcd"[:many]], "otherwise go"]))
+        self.assertEqual(bad_line("round 0\nsource a price 1\notherwise go"), 2)
+        five = ["round 0", "source a price 1", *[f"  {name} yes" for name in "abcde"], "otherwise go"]
+        self.assertEqual(bad_line("\n".join(five)), 6)
+        for row, most in (("given true", 6), ("rule {} true", 12), ("decide go if true", 12)):
+            rows = [row.format("r" + chr(97 + at)) for at in range(most + 1)]
+            for many in range(most + 1):
+                Program(with_rows(*rows[:many]))
+            self.assertEqual(bad_line(with_rows(*rows)), len(HEAD) + most)
+
+    def test_letters_of_names(self):
+        words = ["z", "qq", "abcdefghijkl", "rounds", "ins", "nots", "ors", "trues", "sourc", "wordsmithery"]
+        others = ["abcdefghijklm", "a1", "a-b", "a_b", "A", "aB", "\u00e4", "", "1", "a.b"]
+        places = ["source {} price 1\n  x yes", "source q price 1\n  {} yes", "source q price 1\n  x lo {}"]
+        for at, place in enumerate(places):
+            self.check("round 0\n" + place + "\notherwise go", 1 + (at > 0), words, others)
+        for place in ("rule {} true", "decide {} if true", "otherwise {}"):
+            text = "\n".join([*HEAD, place]) if place.startswith("otherwise") else with_rows(place)
+            self.check(text, len(HEAD), words, others)
+
+    def test_letters_of_names_in_expressions(self):
+        for name in ("abcdefghijkl", "abcdefghijklm"):
+            for written in (f"{name}", f"there {name}", f"{name}.x", f"a.{name}", f"a.w = {name}", f"a.w in (lo, {name})"):
+                with self.subTest(written):
+                    error = Unnamed if len(name) == 12 else BadProgram
+                    self.assertEqual(raised(error, Program, with_rows(f"given {written}")), len(HEAD))
+
+    def test_integers_of_expressions(self):
+        integers = ["0", "-1", "9", "10", "1000000", "-1000000", "999999"]
+        others = ["1000001", "-1000001", "10000000", "01", "00", "-0", "-01", "--1", "- 1", "+1", "1.0", ""]
+        for place in ("given true or a.n = {}", "rule r a.n < {}", "decide go if a.n > {}", "given true or points(1 a.b) = {}",
+                      "rule r points(1 a.b) < {}", "decide go if points(1 a.b) > {}"):
+            self.check(with_rows(place), len(HEAD), integers, others)
+        self.check(with_rows("rule r points(1 a.b, {} m.x) > 1"), len(HEAD), range(-9, 10),
+                   ["-10", "10", "1000000", "00", "-0", "01", "+1", "", "- 1", "x"])
+
+    def test_words_of_expressions(self):
+        many = ", ".join(["lo", "mid", "hi"] * 20)
+        self.check(with_rows("decide go if a.w in ({})"), len(HEAD), ["lo", "hi, lo", "lo, lo", many], ["", "lo,", ",", "lo lo", "1"])
+
+
+class TokensTest(unittest.TestCase):
+    """What counts as a token, how many there may be, and the blanks between them."""
+
+    def test_the_three_hundredth_token(self):
+        for many, written in (
+            (1, "m.x and {}"), (2, "not {}"), (3, "a.b or {}"), (5, "a.n = -5 or {}"), (5, "a.n < 5 and {}"),
+            (7, "a.w in (lo) or {}"), (9, "a.w in (lo, hi) or {}"), (9, "points(1 a.b) > -1 or {}"), (14, "points(1 a.b, -9 a.b) = 0 and {}"),
+        ):
+            for total in (299, 300, 301):
+                with self.subTest((written, total)):
+                    self.check(written, total)
+
+    def tokens(self, written):
+        """The tokens of an expression, counted anew."""
+        for sign in "().,=<>":
+            written = written.replace(sign, f" {sign} ")
+        return len(written.split())
+
+    def check(self, written, total):
+        left = total - self.tokens(written.format(""))
+        # A filling of this many tokens: `true or true ..`, with `not` ahead of it for an even number.
+        filling = " or ".join(["true"] * ((left + 1) // 2))
+        text = written.format(filling if left % 2 else f"not {filling}")
+        self.assertEqual(self.tokens(text), total)
+        for place in ("given {}", "rule r {}", "decide go if {}"):
+            error = self.error_of(with_rows(place.format(text)))
+            # A given that holds in no world is read all the same.
+            self.assertIn(error, (BadProgram,) if total > 300 else (None, NoWorld))
+
+    def error_of(self, text):
+        """The class of the error that a text raises; BadProgram must be that of the line behind HEAD."""
+        try:
+            Program(text)
+        except BadProgram as caught:
+            self.assertEqual(caught.value, len(HEAD))
+            return BadProgram
+        except NoWorld:
+            return NoWorld
+        return None
+
+    def test_each_expression_has_its_own_tokens(self):
+        long = " or ".join(["true"] * 150)
+        Program(with_rows(f"given {long}", f"given not not true or {long[:-24]}", f"rule r {long}", f"decide go if {long}"))
+
+    def test_blanks_between_tokens(self):
+        tokens = ["not", "points", "(", "2", "a", ".", "b", ",", "-1", "m", ".", "x", "and", "a", ".", "n", "<", "-5", ",", "3", "(",
+                  "there", "m", ")", "or", "a", ".", "w", "in", "(", "lo", ",", "hi", ")", ")", "=", "4"]
+        signs = "().,=<>"
+        for at in range(1, len(tokens)):
+            apart = tokens[at - 1] not in signs and tokens[at] not in signs
+            for blanks in ("", " ", "  ", "\t"):
+                text = f"{' '.join(tokens[:at])}{blanks}{' '.join(tokens[at:])}"
+                with self.subTest(text):
+                    if blanks == " " or blanks == "" and not apart:
+                        Program(with_rows(f"rule r {text}"))
+                    elif "therem" in text:
+                        # This is one word, and so may be the name of a rule.
+                        self.assertEqual(raised(Unnamed, Program, with_rows(f"rule r {text}")), len(HEAD))
+                    else:
+                        self.assertEqual(bad_line(with_rows(f"rule r {text}")), len(HEAD))
+        for text in (" a.b", "a.b ", "  a.b", "a.b  ", "\ta.b", "a.b\t", "a.b\r"):
+            self.assertEqual(bad_line(with_rows(f"rule r {text}")), len(HEAD))
+        tight = "not points(2a.b,-1m.x and a.n<-5)=4"
+        self.assertEqual(bad_line(with_rows(f"rule r {tight}")), len(HEAD))
+        Program(with_rows("rule r not points(2 a.b,-1 m.x and a.n<-5,3(there m)or a.w in(lo,hi))=4"))
+
+
+class DepthTest(unittest.TestCase):
+    def test_twenty_deep_in_all_mixtures(self):
+        forms = {"(": ")", "not ": "", "points(1 ": ")>0", "points(0 true, 1 ": ", 2 false)<1"}
+        for one in forms:
+            for other in forms:
+                for many in range(0, 21, 4):
+                    opening = one * many + other * (20 - many)
+                    closing = forms[other] * (20 - many) + forms[one] * many
+                    with self.subTest(opening):
+                        Program(with_rows(f"rule r {opening}a.b{closing}"))
+                        Program(with_rows(f"rule r {opening}a.w in (lo, hi){closing}"))
+                        for more in forms:
+                            for text in (f"{more}{opening}a.b{closing}{forms[more]}", f"{opening}{more}a.b{forms[more]}{closing}"):
+                                self.assertEqual(bad_line(with_rows(f"rule r {text}")), len(HEAD))
+
+
+class SequenceTest(unittest.TestCase):
+    """If several errors apply, the one that is listed first."""
+
+    places = " or ".join([f"a.n = {at}" for at in range(1, 50)])
+    faults = [
+        (BadProgram, ["given (a.b"]), (Doubled, ["rule s true", "rule s true"]), (Unnamed, ["given nowhere"]),
+        (RingOfRules, ["rule q not q"]), (TooLarge, [f"rule p {places}"]), (NoWorld, ["given false"]),
+    ]
+
+    def lines(self, rows):
+        """The lines of a program with these rows, in the sequence in which they may stand."""
+        head = ["round 0", "source a price 1", "  n 0..99", "  b yes", "source m price 1 maybe", "  x yes", "  y yes"]
+        givens = [row for row in rows if row.startswith("given")]
+        rules = [row for row in rows if row.startswith("rule")]
+        return [*head, *givens, "rule ra a.b", "rule rb m.x and m.y", *rules, "otherwise go"]
+
+    def value(self, error, lines, rows):
+        """What the error keeps by the lines of the program."""
+        if error in (BadProgram, Unnamed):
+            return lines.index(rows[0])
+        if error is Doubled:
+            return len(lines) - 1 - lines[::-1].index(rows[1])
+        # a has 50 * 2 marks; m has 2 * 2, and is not there once.
+        return {RingOfRules: ("q",), TooLarge: 500, NoWorld: None}[error]
+
+    def test_each_alone(self):
+        for error, rows in self.faults:
+            with self.subTest(error):
+                lines = self.lines(rows)
+                self.assertEqual(raised(error, Program, "\n".join(lines)), self.value(error, lines, rows))
+
+    def test_two_at_once(self):
+        for at, (error, rows) in enumerate(self.faults):
+            for other, more in self.faults[at + 1:]:
+                with self.subTest((error, other)):
+                    lines = self.lines([*rows, *more])
+                    self.assertEqual(raised(error, Program, "\n".join(lines)), self.value(error, lines, rows))
+
+    def test_all_at_once(self):
+        for at, (error, rows) in enumerate(self.faults):
+            lines = self.lines([row for _, more in self.faults[at:] for row in more])
+            self.assertEqual(raised(error, Program, "\n".join(lines)), self.value(error, lines, rows))
+
+    def test_a_call_that_fails_changes_nothing(self):
+        before = Program(LOAN)
+        for _, rows in self.faults:
+            text = "\n".join(self.lines(rows))
+            with self.assertRaises(ValueError):
+                Program(text)
+            self.assertTrue(Program(LOAN) == before)
+            self.assertEqual(Program(LOAN).names, before.names)
+
+
+class NumberOfMarksTest(unittest.TestCase):
+    def number(self, *sources):
+        """The number that TooLarge tells for sources with fields of so many marks, maybe ones with a ? ahead."""
+        lines, rules = ["round 0"], []
+        for at, source in enumerate(sources):
+            name = "abcde"[at]
+            lines.append(f"source {name} price 1" + (" maybe" if source[0] == "?" else ""))
+            for field, marks in zip("xyzw", [part for part in source if part != "?"]):
+                lines.append(f"  {field} 0..99")
+                rules.append(" or ".join([f"{name}.{field} = {value}" for value in range(1, marks)] + ["false"]))
+        rows = [f"rule r{'abcdefghijkl'[at]} {rule}" for at, rule in enumerate(rules)]
+        try:
+            return len(Program("\n".join([*lines, *rows, "otherwise go"])).mark_worlds)
+        except TooLarge as caught:
+            return caught.value
+
+    def test_numbers(self):
+        for sources, number in (
+            (((20, 20),), 400), (((20,), (20,)), 400), ((("?", 20, 20),), 401), ((("?", 19, 21),), 400), (((3,), (7,), (19,)), 399),
+            (((2, 2, 2, 2), (5, 5)), 400), (((2, 2, 2, 2), ("?", 5, 5)), 416), ((("?", 2),) * 5, 243), ((("?", 2, 2), *[("?", 2)] * 4), 405),
+            ((("?", 1),) * 5, 32), (((1,),), 1), ((("?", 1, 1, 1, 1),), 2), (((3,),) * 5, 243), (((4,),) * 5, 1024), (((50, 50),), 2500),
+            ((("?", 3), (10, 10)), 400), ((("?", 4), (9, 9)), 405),
+        ):
+            with self.subTest(sources):
+                self.assertEqual(self.number(*sources), number)
+
+    def test_loan(self):
+        text = LOAN.replace("  open yes", "  open yes\n  part 0..9").replace("otherwise", "decide look if {}\notherwise")
+        for many in range(1, 6):
+            parts = " or ".join([f"market.part = {at}" for at in range(1, many + 1)])
+            # Of all combinations of marks 16 have a work at an age below 14.
+            self.assertEqual(len(Program(text.format(parts)).mark_worlds), (60 - 16) * (many + 1))
+        parts = " or ".join([f"market.part = {at}" for at in range(1, 7)])
+        self.assertEqual(raised(TooLarge, Program, text.format(parts)), 60 * 7)
+
+
 if __name__ == "__main__":
     unittest.main()
