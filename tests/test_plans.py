@@ -7,6 +7,7 @@ from onlyasked import plans
 from onlyasked.errors import BadAnswers, BadFact, Impossible, NoWorld, TooLarge
 from onlyasked.marks import mark_of
 from onlyasked.plans import Plan, plan, shows_plan, shows_tree
+from onlyasked.prices import Prices, later
 from onlyasked.programs import Program
 from onlyasked.settling import shows_conflict
 from onlyasked.standings import Known
@@ -412,6 +413,13 @@ class ShowsTest(unittest.TestCase):
             with self.subTest(value):
                 self.assertEqual(self.shows(BOTH_PROGRAM, Known(), 3, value), (False, False))
 
+    def test_sources_that_do_not_ascend(self):
+        """Though their branches are those of the sources in this sequence."""
+        turned = tuple([(answers[::-1], tree) for answers, tree in BOTH_TREE[2]])
+        self.assertEqual(self.shows(BOTH_PROGRAM, Known(), 3, ("ask", ("b", "a"), turned)), (False, False))
+        self.assertEqual(self.shows(BOTH_PROGRAM, Known(), 4, ("ask", ("a", "a"), (((NO, NO), REFUSE), ((YES, YES), BOTH_TREE)))),
+                         (False, False))
+
     def test_values_of_any_kind(self):
         for value in [*any_values(), plan(BOTH_PROGRAM, Known())]:
             with self.subTest(value):
@@ -537,6 +545,21 @@ class RandomProgramsTest(unittest.TestCase):
                     one = self.check(program, search, known, rows)
                     longer += any(len(rounds) > 1 for rounds, _ in one.ways())
         self.assertGreater(longer, 100)
+
+    def test_money_that_is_enough(self):
+        """In whatever sequence it is asked for."""
+        dice = Dice(13)
+        gone = [Program(POINTER.replace("source s price 1", f"source s price {cost} stay 0")) for cost in (1, 2)]
+        for program in [*gone, *[dice.program(3) for _ in range(150)]]:
+            search = Search(program)
+            if len(set(search.results.values())) > 1:
+                least = search.least({})
+                for sequence in (range(least + 5, -1, -1), range(least + 5), (least, least - 1, least)):
+                    prices = Prices(program, False)
+                    state = later(prices.state(Known()))
+                    for money in sequence:
+                        with self.subTest((program.text, money)):
+                            self.assertIs(prices.is_enough(state, money), money >= least)
 
     def random_tree(self, dice, search, standing, depth):
         """Any tree for a standing; it asks without need, too."""
