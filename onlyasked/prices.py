@@ -27,7 +27,7 @@ def answers_at(program, place):
     for number, world in enumerate(program.mark_worlds):
         found[world[place]] = found.get(world[place], 0) + (1 << number)
     stay = program.parts[place].stay
-    return [(one, lasting(program, one, stay)) for one in found.values()]
+    return {answer: (one, lasting(program, one, stay)) for answer, one in found.items()}
 
 
 def known_of(program, known, source):
@@ -83,7 +83,8 @@ class Prices:
         self.program = program
         self.rows = rows
         self.asks = asks_by_price(program)
-        self.answers = [answers_at(program, place) for place in range(len(program.parts))]
+        self.by_answer = [answers_at(program, place) for place in range(len(program.parts))]
+        self.answers = [list(told.values()) for told in self.by_answer]
         self.like = like_results(program, rows)
         self.bounds = {}
         self.lowest = {}
@@ -186,6 +187,18 @@ class Prices:
         """The least price of a tree for a standing with which some world agrees."""
         state = self.state(known)
         return 0 if self.is_settled(fitting(state)) else self.least_of(later(state))
+
+    def state_behind(self, state, places, world):
+        """The state behind a round, known as it begins, in which these sources gave the answers of a world of marks."""
+        behind = state
+        for place in places:
+            sets = self.by_answer[place][world[place]][1]
+            behind = behind[:place] + (sets,) + behind[place + 1:]
+        return behind
+
+    def is_dear(self, state, price):
+        """Whether no tree for a state is cheaper than this price, from 1."""
+        return not self.is_settled(fitting(state)) and not self.is_enough(later(state), price - 1)
 
     def first_ask(self, known):
         """The sources of the first round of a least tree, ascending, () if the standing is settled."""

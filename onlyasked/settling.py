@@ -106,15 +106,19 @@ def is_agreeing(program, facts, value):
     return is_world(program, value) and agrees(program, facts, value)
 
 
+def are_parted(program, facts, one, other, rows):
+    """Whether any two values are worlds that agree with the facts and have unlike results."""
+    if not is_agreeing(program, facts, one) or not is_agreeing(program, facts, other):
+        return False
+    return result_of(evaluate(program, one), rows) != result_of(evaluate(program, other), rows)
+
+
 def shows_parting(program, facts, value, *, rows=False):
     """Whether any value is what parting may return."""
     refuse_settled(program, facts, rows)
     if not isinstance(value, tuple) or len(value) != 2:
         return False
-    one, other = value
-    if not is_agreeing(program, facts, one) or not is_agreeing(program, facts, other):
-        return False
-    return result_of(evaluate(program, one), rows) != result_of(evaluate(program, other), rows)
+    return are_parted(program, facts, value[0], value[1], rows)
 
 
 def shows_kept(program, facts, value, *, rows=False):

@@ -31,6 +31,26 @@ class Source:
         self.fields = []
 
 
+def part_named(program, name):
+    """The Source object of a source of the program."""
+    return program.parts[program.sources.index(name)]
+
+
+def field_forms(source):
+    """What the lines of the fields of a source say."""
+    return [(field.name, field.kind, field.span) for field in source.fields]
+
+
+def source_forms(program):
+    """What the lines of sources and fields say, but for prices, stay and common."""
+    return [(source.name, source.maybe, field_forms(source)) for source in program.parts]
+
+
+def terms(program):
+    """What the lines of sources say of prices, stay and common."""
+    return [(source.price, source.stay, source.common) for source in program.parts]
+
+
 def is_integer(value):
     """Whether any value is an integer; True and False are none."""
     return isinstance(value, int) and not isinstance(value, bool)

@@ -2,7 +2,7 @@
 
 from onlyasked.errors import BadFacts, NoName
 from onlyasked.facts import Facts, are_facts
-from onlyasked.sources import is_integer, told_by
+from onlyasked.sources import is_integer, part_named, told_by
 
 LONGEST_LIFE = 3
 
@@ -55,7 +55,7 @@ class Known:
 
     def answered(self, program, source, answer):
         """The standing with an answer of a source in the place of all that it had of it."""
-        part = program.parts[program.sources.index(source)]
+        part = part_named(program, source)
         lines = [line for line in self.lines if not is_of_source(line[0], source)]
         told = told_by([part], [answer])
         lines.extend([(name, told[name], part.stay) for name in told])

@@ -1,23 +1,37 @@
 """Trees: what to ask in each round, by what came back in the rounds ahead of it."""
 
 from onlyasked.agreeing import agreeing, members, results_in, told_world
-from onlyasked.sources import are_answers, is_integer
+from onlyasked.sources import are_answers, is_integer, part_named
 
 
 def parts_named(program, sources):
     """The Source objects of these sources, in their sequence."""
-    return [program.parts[program.sources.index(source)] for source in sources]
+    return [part_named(program, source) for source in sources]
+
+
+def places_of(program, sources):
+    """Where these sources stand among those of the program."""
+    return [program.sources.index(source) for source in sources]
+
+
+def worlds_behind(program, known):
+    """The worlds that can be true when sources are asked in a standing, in their sequence."""
+    facts = known.later().facts
+    return [told_world(program, number, facts) for number in members(agreeing(program, facts))]
+
+
+def answers_among(program, worlds, sources):
+    """The answers of these sources in some worlds, each tuple once, in the sequence in which they first come."""
+    places = places_of(program, sources)
+    found = {}
+    for world in worlds:
+        found[tuple([world[place] for place in places])] = True
+    return list(found)
 
 
 def answers_behind(program, known, sources):
     """The answers of all branches when these sources are asked in a standing, in their sequence."""
-    facts = known.later().facts
-    places = [program.sources.index(source) for source in sources]
-    found = {}
-    for number in members(agreeing(program, facts)):
-        world = told_world(program, number, facts)
-        found[tuple([world[place] for place in places])] = True
-    return list(found)
+    return answers_among(program, worlds_behind(program, known), sources)
 
 
 def standing_behind(program, known, sources, answers):
@@ -37,6 +51,11 @@ def can_answer(program, known, sources, value):
     if not all([name in facts and facts[name] == told for name, told in before.pairs]):
         return False
     return agreeing(program, facts) != 0
+
+
+def asking_cost(program, sources):
+    """The price of a round in which these sources are asked."""
+    return program.round_price + sum([part.price for part in parts_named(program, sources)])
 
 
 def result_settled(prices, known):
@@ -116,8 +135,7 @@ def asking_price(prices, known, value, least):
     further = branches_price(prices, known, value[1], value[2], least)
     if further is None:
         return None
-    asked = [part.price for part in parts_named(prices.program, value[1])]
-    return prices.program.round_price + sum(asked) + further
+    return asking_cost(prices.program, value[1]) + further
 
 
 def tree_price(prices, known, value, least):
