@@ -222,8 +222,6 @@ def read_rest(reader, words):
 
 def program_in(lines):
     """The program that lines write, None if there is none."""
-    if not lines:
-        return None
     try:
         return Program("\n".join(lines))
     except AskError:

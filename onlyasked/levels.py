@@ -64,9 +64,7 @@ def are_word_sets(field, value):
     """Whether a tuple of values has just the tuples that the words of a field may be parted into."""
     places = []
     for one in value:
-        if not isinstance(one, tuple) or not one or not all([isinstance(word, str) for word in one]):
-            return False
-        if not all([word in field.span for word in one]):
+        if not isinstance(one, tuple) or not one or not all([word in field.span for word in one]):
             return False
         places.append([field.span.index(word) for word in one])
     together = sorted([place for some in places for place in some])
@@ -119,7 +117,7 @@ def is_table(levels, value, first):
         return True
     if isinstance(value, str):
         return is_name(value)
-    if not isinstance(value, tuple) or len(value) != 2 or not isinstance(value[0], str):
+    if not isinstance(value, tuple) or len(value) != 2:
         return False
     for level in levels_from(levels, first):
         if level.field.name == value[0]:

@@ -34,12 +34,12 @@ def are_worlds(program, value):
 
 
 def refuse_no_subject(outside, value):
-    if not isinstance(value, str) or value not in outside.subjects:
+    if value not in outside.subjects:
         raise NoSubject(value)
 
 
 def refuse_no_source(outside, value):
-    if not isinstance(value, str) or value not in outside.program.sources:
+    if value not in outside.program.sources:
         raise NoSource(value)
 
 

@@ -77,6 +77,20 @@ def program_with(draw, sources, cost=None, givens=0.4):
             continue
 
 
+def varied(draw, one, sources):
+    """A program like another one, but for one more row ahead of the others, that seldom holds."""
+    lines = one.text.split("\n")
+    at = [at for at, line in enumerate(lines) if line.startswith("decide")][0]
+    rule = f"{leaf(draw, sources)} and {leaf(draw, sources)} and {leaf(draw, sources)}"
+    if sum(line.startswith("decide") for line in lines) == 12:
+        lines.pop(at)
+    lines.insert(at, f"decide {draw.choice(OUTCOMES)} if {rule}")
+    try:
+        return Program("\n".join(lines))
+    except TooLarge:
+        return one
+
+
 def program(draw, least=1, most=3, common=0.25, most_fields=2, givens=0.4):
     """Any program."""
     sources = source_lines(draw, draw.randint(least, most), common, most_fields)

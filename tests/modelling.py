@@ -1,5 +1,6 @@
-"""A house by the words of points 14 and 15 alone, for the tests: it keeps all that ever happened, and looks back at it."""
+"""A house by the words of points 14 and 15 alone, for the tests: it keeps all that ever happened, and looks back."""
 
+from onlyasked.errors import NoPage
 from onlyasked.outside import Outside
 from onlyasked.plans import plan
 from onlyasked.settling import kept, possible
@@ -243,7 +244,6 @@ def told_of(page):
 
 
 def has_page(house, subject):
-    from onlyasked.errors import NoPage
     try:
         house.page(subject)
     except NoPage:

@@ -33,6 +33,13 @@ POINTER = ("round 1\nsource s price 1\n  side left right\nsource u price 5\n  to
            "s.side = right and u.told = dunno and not v.told = dunno\n"
            "decide grant if u.told = good or v.told = good\notherwise refuse")
 
+# Rows 0 and 1 have the same outcome: with rows b must be asked, too.
+TWICE = ("round 1\nsource a price 1\n  x yes\nsource b price 5\n  x yes\n"
+         "decide go if a.x and b.x\ndecide go if a.x\notherwise halt")
+# All three sources at once are the only least first round: each further round costs 2.
+CLUB = ("round 2\nsource a price 1 stay 2\n  x yes\nsource b price 3 stay 1 maybe\n  y yes\n"
+        "source m price 4 stay 3 common\n  z yes\ndecide go if a.x and b.y and m.z\notherwise halt")
+
 HEAD = ("round 0", "source a price 1", "  n -5..9", "  w lo mid hi", "  b yes", "source m price 1 maybe", "  x yes")
 
 

@@ -13,7 +13,7 @@ from onlyasked.programs import Program
 from onlyasked.settling import conflict
 from onlyasked.standings import Known
 from onlyasked.worlds import evaluate, is_world
-from samples import BOTH, LOAN, POINTER, any_values, raised, same
+from samples import BOTH, LOAN, POINTER, TWICE, any_values, raised, same
 from searching import Search, standing_of
 
 BOTH_PROGRAM, POINTER_PROGRAM, LOAN_PROGRAM = Program(BOTH), Program(POINTER), Program(LOAN)
@@ -97,13 +97,21 @@ class NamesTest(unittest.TestCase):
         value = answerer(known=Known(), program=BOTH_PROGRAM, rows=False)
         self.assertIs(shows_answerer(value=value, price=3, known=Known(), program=BOTH_PROGRAM, rows=False), True)
         self.assertEqual(list(inspect.signature(answerer).parameters), ["program", "known", "rows"])
-        self.assertEqual(list(inspect.signature(shows_answerer).parameters), ["program", "known", "price", "value", "rows"])
+        self.assertEqual(list(inspect.signature(shows_answerer).parameters),
+                         ["program", "known", "price", "value", "rows"])
 
     def test_rows_are_given_by_name_only(self):
         with self.assertRaises(TypeError):
             answerer(BOTH_PROGRAM, Known(), False)
         with self.assertRaises(TypeError):
             shows_answerer(BOTH_PROGRAM, Known(), 3, (), False)
+
+    def test_rows_are_left_out_by_default(self):
+        program = Program(TWICE)
+        self.assertEqual(answerer(program, Known())[0][1], 2)
+        self.assertEqual(answerer(program, Known(), rows=True)[0][1], 7)
+        self.assertIs(shows_answerer(program, Known(), 2, answerer(program, Known())), True)
+        self.assertIs(shows_answerer(program, Known(), 7, answerer(program, Known(), rows=True)), False)
 
     def test_equal_calls_return_equal_results(self):
         for program in (BOTH_PROGRAM, POINTER_PROGRAM, LOAN_PROGRAM):
@@ -174,7 +182,8 @@ class ExampleTest(unittest.TestCase):
 
     def test_none_where_an_answer_is_wanted_and_the_other_way_round(self):
         for pairs in (
-            ((("a",), None), (("a", "b"), None), (("b",), (YES,))), ((("a",), (YES,)), (("a", "b"), None), (("b",), None)),
+            ((("a",), None), (("a", "b"), None), (("b",), (YES,))), ((("a",), (YES,)), (("a", "b"), None),
+                (("b",), None)),
             ((("a",), (YES,)), (("a", "b"), (YES, YES)), (("b",), (YES,))),
         ):
             self.assertIs(shown((replaced(FIRST, 4, pairs), SECOND, THIRD)), False)
@@ -182,9 +191,11 @@ class ExampleTest(unittest.TestCase):
     def test_sets_of_sources(self):
         a, both, b = FIRST[4]
         for pairs in (
-            (a, both), (both, b), (a, b), (), (a, b, both), (both, a, b), (b, both, a), (a, a, both, b), (a, both, both, b),
+            (a, both), (both, b), (a, b), (), (a, b, both), (both, a, b), (b, both, a), (a, a, both, b),
+            (a, both, both, b),
             (a, (("b", "a"), None), b), (a, (["a", "b"], None), b), (a, ("ab", None), b), ((("c",), (YES,)), both, b),
-            ((), a, both, b), (((), None), a, both, b), [a, both, b], (list(a), both, b), (("a", (YES,)), both, b), None,
+            ((), a, both, b), (((), None), a, both, b), [a, both, b], (list(a), both, b), (("a", (YES,)), both, b),
+            None,
             (a, both, b, None), ((*a, None), both, b), (a[:1], both, b), 3, "", ((None, None), both, b),
         ):
             with self.subTest(pairs):
@@ -192,7 +203,8 @@ class ExampleTest(unittest.TestCase):
 
     def test_answers(self):
         a, both, b = FIRST[4]
-        for answers in ((NO,), ((1,),), (True,), YES, ([True],), [YES], (YES, YES), (), ((True, True),), ((None,),), (None,), 0):
+        for answers in ((NO,), ((1,),), (True,), YES, ([True],), [YES], (YES, YES), (), ((True, True),), ((None,),),
+                        (None,), 0):
             self.assertIs(shown((replaced(FIRST, 4, ((("a",), answers), both, b)), SECOND, THIRD)), False)
 
     def test_answers_whose_standing_has_a_line(self):
@@ -204,7 +216,8 @@ class ExampleTest(unittest.TestCase):
     def test_worlds(self):
         for one, other in (
             (YEA, YEA), (NAY, NAY), (NAY, (NO, YES)), (YEA, (1, 0)), (YEA, ((1,), (0,))), (YEA, ((0,), (False,))),
-            ((True, True), NAY), (YEA, None), (YEA, (NO,)), (YEA, [NO, NO]), (None, None), (YEA, (NO, NO, NO)), ("a", "b"),
+            ((True, True), NAY), (YEA, None), (YEA, (NO,)), (YEA, [NO, NO]), (None, None), (YEA, (NO, NO, NO)),
+            ("a", "b"),
         ):
             with self.subTest((one, other)):
                 self.assertIs(shown((replaced(replaced(FIRST, 2, one), 3, other), SECOND, THIRD)), False)
@@ -224,7 +237,8 @@ class ExampleTest(unittest.TestCase):
 
     def test_lines_of_standings(self):
         for lines in (
-            [("a.x", True, 0)], (["a.x", True, 0],), (("a.x", True),), (("a.x", True, 0), ("a.x", True, 0)), (("a.x", True, 4),),
+            [("a.x", True, 0)], (["a.x", True, 0],), (("a.x", True),), (("a.x", True, 0), ("a.x", True, 0)),
+            (("a.x", True, 4),),
             (("a.y", True, 0),), (("a", True, 0),), (("a.x", "yes", 0),), "a.x", None, (("a.x", True, -1),), Known(),
         ):
             with self.subTest(lines):
@@ -261,13 +275,15 @@ class ExampleTest(unittest.TestCase):
 
 class ErrorsTest(unittest.TestCase):
     def test_bad_fact_then_impossible(self):
-        known = Known((("work", False, None), ("work.income", 3, None), ("person.agee", 1, None), ("person.age", True, 0)))
+        known = Known((("work", False, None), ("work.income", 3, None), ("person.agee", 1, None),
+                       ("person.age", True, 0)))
         for call in (lambda: answerer(LOAN_PROGRAM, known), lambda: shows_answerer(LOAN_PROGRAM, known, 0, ()),
                      lambda: shows_answerer(LOAN_PROGRAM, known, -5, None)):
             self.assertEqual(raised(BadFact, call), "person.age")
         known = Known((("work", False, None), ("work.income", 3, None), ("person.age", 20, 0)))
         for call in (lambda: answerer(LOAN_PROGRAM, known), lambda: shows_answerer(LOAN_PROGRAM, known, 0, ()),
-                     lambda: shows_answerer(LOAN_PROGRAM, known, 0, []), lambda: shows_answerer(LOAN_PROGRAM, known, 7, [[]])):
+                     lambda: shows_answerer(LOAN_PROGRAM, known, 0, []),
+                     lambda: shows_answerer(LOAN_PROGRAM, known, 7, [[]])):
             found = raised(Impossible, call)
             self.assertEqual(found, conflict(LOAN_PROGRAM, known.facts))
             self.assertEqual(found, Facts((("work", False), ("work.income", 3))))
@@ -282,7 +298,8 @@ class ErrorsTest(unittest.TestCase):
 
 
 class WholeForEverTest(unittest.TestCase):
-    TEXT = ("round 1\nsource a price 1 maybe\n  x yes\n  y yes\nsource b price 1 stay 3\n  x yes\nsource c price 1\n  x yes\n"
+    TEXT = ("round 1\nsource a price 1 maybe\n  x yes\n  y yes\nsource b price 1 stay 3\n  x yes\n"
+            "source c price 1\n  x yes\n"
             "decide go if points(1 a.x, 1 b.x, 1 c.x) > 1\notherwise halt")
 
     def sets(self, *lines):
@@ -360,7 +377,8 @@ class AgainstTheWordsTest(unittest.TestCase):
             program = drawing.program(draw, 1, 3)
             worlds = drawing.all_worlds(program)
             for _ in range(4):
-                self.check(program, drawing.known_of(draw, program, draw.choice(worlds), draw.random()), draw.random() < 0.3)
+                self.check(program, drawing.known_of(draw, program, draw.choice(worlds), draw.random()),
+                           draw.random() < 0.3)
 
     def test_four_and_five_sources(self):
         draw = random.Random(12)

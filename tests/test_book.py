@@ -11,14 +11,13 @@ from onlyasked.outside import Outside
 from onlyasked.programs import Program
 from onlyasked.settling import kept, possible
 from onlyasked.standings import Known
-from samples import BOTH, LOAN, any_values, raised, same
+from samples import BOTH, CLUB, LOAN, TWICE, any_values, raised, same
 
-CLUB = ("round 2\nsource a price 1 stay 2\n  x yes\nsource b price 3 stay 1 maybe\n  y yes\nsource m price 4 stay 3 common\n"
-        "  z yes\ndecide go if a.x and b.y and m.z\notherwise halt")
 # Under these, who was decided to go is open again, or stands.
 HARDER = CLUB.replace("decide go if", "decide halt if not a.x or not b.y\ndecide stop if not m.z\ndecide wait if")
 OTHER = CLUB.replace("decide go", "decide halt if not a.x\ndecide go")
-BOTH_PROGRAM, CLUB_PROGRAM, HARDER_PROGRAM, OTHER_PROGRAM = Program(BOTH), Program(CLUB), Program(HARDER), Program(OTHER)
+BOTH_PROGRAM, CLUB_PROGRAM = Program(BOTH), Program(CLUB)
+HARDER_PROGRAM, OTHER_PROGRAM = Program(HARDER), Program(OTHER)
 YES, NO = (True,), (False,)
 ALL = (YES, YES, YES)
 GO = (("a.x", True, 2), ("b.y", True, 1), ("m.z", True, 3))
@@ -61,8 +60,10 @@ class PageTest(unittest.TestCase):
     def test_pages_that_say_the_same_are_equal(self):
         one = Page("ann", 3, "go", 1, Known(GO))
         self.assertTrue(one == Page("ann", 3, "go", 1, Known(GO)))
-        for other in (Page("bob", 3, "go", 1, Known(GO)), Page("ann", 4, "go", 1, Known(GO)), Page("ann", 3, "halt", 1, Known(GO)),
-                      Page("ann", 3, "go", None, Known(GO)), Page("ann", 3, "go", 1, Known(GO[:1])), None, 1, told_of(one)):
+        for other in (Page("bob", 3, "go", 1, Known(GO)), Page("ann", 4, "go", 1, Known(GO)),
+                      Page("ann", 3, "halt", 1, Known(GO)),
+                      Page("ann", 3, "go", None, Known(GO)), Page("ann", 3, "go", 1, Known(GO[:1])), None, 1,
+                      told_of(one)):
             self.assertFalse(one == other)
 
 
@@ -102,7 +103,8 @@ class PagesTest(unittest.TestCase):
 
     def test_the_house_forgets_what_it_knew_of_the_subject_alone(self):
         house = decided(ann=ALL, bob=(NO, YES, YES))
-        self.assertEqual([line for line in show_house(house).split("\n") if line.startswith(("case", "common"))], ["common m m.z yes for 3"])
+        self.assertEqual([line for line in show_house(house).split("\n") if line.startswith(("case", "common"))],
+                         ["common m m.z yes for 3"])
         house.news("a", "bob")
         self.assertEqual(house.standing("bob").lines, (("m.z", True, 3),))
 
@@ -121,7 +123,8 @@ class RestTest(unittest.TestCase):
     def test_lives_are_counted_on(self):
         house = decided(ann=ALL)
         page = house.page("ann")
-        for lines in (GO, (("a.x", True, 1), ("b.y", True, 0), ("m.z", True, 2)), (("a.x", True, 0), ("m.z", True, 1)), (("m.z", True, 0),), (), ()):
+        for lines in (GO, (("a.x", True, 1), ("b.y", True, 0), ("m.z", True, 2)), (("a.x", True, 0), ("m.z", True, 1)),
+                      (("m.z", True, 0),), (), ()):
             self.assertEqual(house.rest("ann"), Known(lines))
             self.assertEqual(house.page("ann"), page)
             house.go()
@@ -178,7 +181,8 @@ class ReviseTest(unittest.TestCase):
             (CLUB, ("ann", "bob", "cat"), ()), (OTHER, ("ann", "bob", "cat"), ()), (HARDER, ("bob", "cat"), ("ann",)),
             (CLUB.replace("decide go", "decide stop"), ("bob", "cat"), ("ann",)),
             (CLUB.replace("otherwise halt", "otherwise stop"), ("ann",), ("bob", "cat")),
-            (CLUB.replace("b.y and ", ""), ("ann", "bob"), ("cat",)), (CLUB.replace("a.x and ", ""), ("ann", "cat"), ("bob",)),
+            (CLUB.replace("b.y and ", ""), ("ann", "bob"), ("cat",)), (CLUB.replace("a.x and ", ""), ("ann", "cat"),
+                ("bob",)),
             (CLUB.replace("decide go if a.x and b.y and m.z", "decide new if true"), (), ("ann", "bob", "cat")),
         ):
             with self.subTest(text):
@@ -187,7 +191,8 @@ class ReviseTest(unittest.TestCase):
                     self.assertTrue(same(held.revise(program), (stands, opened)))
                     self.assertIs(held.program, program)
                     self.assertIs(held.outside.program, program)
-                    self.assertEqual([told_of(page) for page in held.pages[:3]], [told_of(page) for page in house.pages])
+                    self.assertEqual([told_of(page) for page in held.pages[:3]],
+                                     [told_of(page) for page in house.pages])
                     for subject in stands:
                         self.assertEqual(told_of(held.page(subject)), told_of(house.page(subject)))
 
@@ -204,9 +209,11 @@ class ReviseTest(unittest.TestCase):
         house = house_of(CLUB_PROGRAM, ann=ALL, bob=ALL)
         house.go(("ok", "lost"))
         self.assertEqual((house.cases, house.standing("ann").lines), (("ann",), (("a.x", True, 2), ("m.z", True, 3))))
-        self.assertEqual(house.revise(Program(CLUB.replace("decide go if", "decide wait if a.x and not a.x or m.z\ndecide go if"))), ((), ("bob",)))
+        self.assertEqual(house.revise(Program(CLUB.replace("decide go if",
+            "decide wait if a.x and not a.x or m.z\ndecide go if"))), ((), ("bob",)))
         self.assertEqual(house.cases, ())
-        self.assertEqual([told_of(page)[:3] for page in house.pages], [("bob", 1, "go"), ("ann", 1, "wait"), ("bob", 1, "wait")])
+        self.assertEqual([told_of(page)[:3] for page in house.pages],
+                         [("bob", 1, "go"), ("ann", 1, "wait"), ("bob", 1, "wait")])
 
     def test_another_outcome_at_once(self):
         house = decided(ann=ALL)
@@ -235,24 +242,26 @@ class ReviseTest(unittest.TestCase):
     def test_rows_do_not_matter_for_standing(self):
         text = "round 1\nsource a price 1\n  x yes\ndecide go if a.x\notherwise halt"
         house = decided(Program(text), rows=True, ann=(YES,))
-        self.assertEqual(house.revise(Program(text.replace("decide go", "decide halt if not a.x\ndecide go"))), (("ann",), ()))
+        self.assertEqual(house.revise(Program(text.replace("decide go", "decide halt if not a.x\ndecide go"))),
+                         (("ann",), ()))
         self.assertEqual((house.page("ann").row, len(house.pages)), (0, 1))
         again = text.replace("decide go if a.x", "decide go if a.x and a.x\ndecide go if not a.x")
         self.assertEqual(house.revise(Program(again)), (("ann",), ()))
 
     def test_a_house_with_rows_opens_what_no_outcome_settles(self):
-        text = "round 1\nsource a price 1\n  x yes\nsource b price 1\n  x yes\ndecide go if a.x and b.x\ndecide go if a.x\notherwise halt"
-        house = decided(Program(text), rows=True, ann=(YES, YES))
+        house = decided(Program(TWICE), rows=True, ann=(YES, YES))
         self.assertEqual(house.page("ann").row, 0)
-        self.assertEqual(house.revise(Program(text.replace("go if a.x\n", "stop if a.x\n"))), (("ann",), ()))
-        self.assertEqual(house.revise(Program(text.replace("go if a.x and", "stop if a.x and"))), ((), ("ann",)))
+        self.assertEqual(house.revise(Program(TWICE.replace("go if a.x\n", "stop if a.x\n"))), (("ann",), ()))
+        self.assertEqual(house.revise(Program(TWICE.replace("go if a.x and", "stop if a.x and"))), ((), ("ann",)))
         self.assertEqual((house.page("ann").outcome, house.page("ann").row), ("stop", 0))
 
     def test_other_sources(self):
         house = decided(ann=ALL)
         before = everything(house)
-        for written in (("price 1", "price 2"), ("stay 2", "stay 3"), (" stay 2", ""), (" common", ""), ("stay 1 maybe", "stay 1"),
-                        ("stay 2\n", "stay 2 common\n"), ("  x yes", "  x yes\n  w yes"), ("source m", "source c"), ("  z yes", "  z lo hi")):
+        for written in (("price 1", "price 2"), ("stay 2", "stay 3"), (" stay 2", ""), (" common", ""),
+                        ("stay 1 maybe", "stay 1"),
+                        ("stay 2\n", "stay 2 common\n"), ("  x yes", "  x yes\n  w yes"), ("source m", "source c"),
+                        ("  z yes", "  z lo hi")):
             text = CLUB.replace(*written).replace("m.z", "c.z") if written[1] == "source c" else CLUB.replace(*written)
             text = text.replace("and m.z", "and m.z = lo") if "lo hi" in text else text
             self.assertIsNone(raised(OtherSources, house.revise, Program(text)))
@@ -267,12 +276,16 @@ class ReviseTest(unittest.TestCase):
         self.assertIsNone(raised(OtherSources, house.revise, Program(text.replace("price 1", "price 2"))))
 
     def test_bad_worlds(self):
-        house = House(Outside(CLUB_PROGRAM, (("dan", (NO, YES, YES)), ("ann", ALL), ("bob", (NO, None, YES)), ("cat", ALL))))
+        house = House(Outside(CLUB_PROGRAM,
+                              (("dan", (NO, YES, YES)), ("ann", ALL), ("bob", (NO, None, YES)), ("cat", ALL))))
         house.begin("bob")
         house.go()
         before = everything(house)
-        for given, subjects in (("a.x", ("bob", "dan")), ("not a.x", ("ann", "cat")), ("there b", ("bob",)), ("not m.z", ("ann", "bob", "cat", "dan"))):
-            self.assertTrue(same(raised(BadWorlds, house.revise, Program(CLUB.replace("decide", f"given {given}\ndecide"))), subjects))
+        for given, subjects in (("a.x", ("bob", "dan")), ("not a.x", ("ann", "cat")), ("there b", ("bob",)),
+                                ("not m.z", ("ann", "bob", "cat", "dan"))):
+            self.assertTrue(same(raised(BadWorlds,
+                                        house.revise, Program(CLUB.replace("decide", f"given {given}\ndecide"))),
+                                        subjects))
         self.assertEqual(everything(house), before)
         self.assertIsNone(raised(NothingToUndo, house.undo))
         for _ in range(2):
@@ -334,11 +347,14 @@ class NewsTest(unittest.TestCase):
     def test_what_is_on_its_way(self):
         house = house_of(CLUB_PROGRAM, ann=ALL, bob=ALL)
         house.go(("late", "late", "late", "late", "late"))
-        late = ["coming a ann 1 yes", "coming b ann 0 yes", "coming m - 2 yes", "coming a bob 1 yes", "coming b bob 0 yes"]
-        for source, subject, left in (("a", "ann", [1, 2, 3, 4]), ("b", "bob", [0, 1, 2, 3]), ("m", "ann", [0, 1, 3, 4]), ("m", "bob", [0, 1, 3, 4])):
+        late = ["coming a ann 1 yes", "coming b ann 0 yes", "coming m - 2 yes", "coming a bob 1 yes",
+                "coming b bob 0 yes"]
+        for source, subject, left in (("a", "ann", [1, 2, 3, 4]), ("b", "bob", [0, 1, 2, 3]),
+                                      ("m", "ann", [0, 1, 3, 4]), ("m", "bob", [0, 1, 3, 4])):
             with house.trial() as held:
                 self.assertEqual(held.news(source, subject), ())
-                self.assertEqual([line for line in show_house(held).split("\n") if line.startswith("coming")], [late[at] for at in left])
+                self.assertEqual([line for line in show_house(held).split("\n") if line.startswith("coming")],
+                                 [late[at] for at in left])
 
     def test_what_is_on_its_way_for_a_decided_subject(self):
         house = house_of(CLUB_PROGRAM, ann=(NO, YES, YES))
@@ -362,7 +378,8 @@ class NewsTest(unittest.TestCase):
         house.go()
         self.assertEqual(house.cases, ())
         self.assertEqual(house.news("a", "ann"), ("ann",))
-        self.assertEqual((house.cases, told_of(house.page("ann"))), ((), ("ann", 2, "halt", 1, Known((("m.z", False, 3),)))))
+        self.assertEqual((house.cases, told_of(house.page("ann"))), ((),
+            ("ann", 2, "halt", 1, Known((("m.z", False, 3),)))))
 
     def test_no_source_then_no_subject(self):
         house = decided(ann=ALL)
@@ -446,7 +463,8 @@ class UndoTest(unittest.TestCase):
             self.assertEqual(house.undo(), ((("ann",), ()) if again else ((), ())))
 
     def test_news_for_somebody_else(self):
-        for source, subject, stands in (("a", "bob", ("ann",)), ("b", "bob", ("ann", "bob")), ("m", "cat", ()), ("a", "cat", ("ann", "bob"))):
+        for source, subject, stands in (("a", "bob", ("ann",)), ("b", "bob", ("ann", "bob")), ("m", "cat", ()),
+                                        ("a", "cat", ("ann", "bob"))):
             house = self.opened(ann=ALL, bob=ALL, cat=ALL)
             house.news("b", "cat")
             house.news("a", "cat")
@@ -626,8 +644,7 @@ class TrialTest(unittest.TestCase):
             self.assertEqual(everything(held), everything(house))
 
     def test_a_house_with_rows(self):
-        text = "round 1\nsource a price 1\n  x yes\nsource b price 5\n  x yes\ndecide go if a.x and b.x\ndecide go if a.x\notherwise halt"
-        house = house_of(Program(text), rows=True, ann=(YES, NO))
+        house = house_of(Program(TWICE), rows=True, ann=(YES, NO))
         with house.trial() as held:
             self.assertEqual(held.told("ann"), 7)
             held.go()

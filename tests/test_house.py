@@ -6,7 +6,8 @@ import drawing
 from modelling import Model, state_of, told_of
 from onlyasked import house as module
 from onlyasked.book import Page
-from onlyasked.errors import Begun, NoCase, NoPage, NoSubject
+from onlyasked.errors import Begun, Impossible, NoCase, NoPage, NoSubject
+from onlyasked.facts import Facts
 from onlyasked.house import House
 from onlyasked.housetexts import read_house, show_house
 from onlyasked.outside import Outside
@@ -14,11 +15,8 @@ from onlyasked.plans import plan
 from onlyasked.programs import Program
 from onlyasked.standings import Known
 from onlyasked.worlds import evaluate
-from samples import BOTH, LOAN, any_values, raised, same
+from samples import BOTH, CLUB, LOAN, TWICE, any_values, raised, same
 
-# All three sources at once are the only least first round: each further round costs 2.
-CLUB = ("round 2\nsource a price 1 stay 2\n  x yes\nsource b price 3 stay 1 maybe\n  y yes\nsource m price 4 stay 3 common\n"
-        "  z yes\ndecide go if a.x and b.y and m.z\notherwise halt")
 BOTH_PROGRAM, CLUB_PROGRAM, LOAN_PROGRAM = Program(BOTH), Program(CLUB), Program(LOAN)
 YES, NO = (True,), (False,)
 ALL = (YES, YES, YES)
@@ -174,7 +172,8 @@ class StandingTest(unittest.TestCase):
         house.go(("ok", "lost", "ok"))
         self.assertEqual(house.standing("ann").lines, (("a.x", True, 2), ("m.z", True, 3)))
         self.assertEqual(house.told("ann"), 5)
-        for lines in ((("a.x", True, 1), ("m.z", True, 2)), (("a.x", True, 0), ("m.z", True, 1)), (("m.z", True, 0),), ()):
+        for lines in ((("a.x", True, 1), ("m.z", True, 2)), (("a.x", True, 0), ("m.z", True, 1)), (("m.z", True, 0),),
+                      ()):
             house.outside.tick()
             self.assertEqual(house.standing("ann").lines, lines)
             self.assertEqual(house.told("ann"), plan(CLUB_PROGRAM, Known(lines)).price)
@@ -194,7 +193,9 @@ class RoundTest(unittest.TestCase):
     def test_a_round(self):
         house = begun(CLUB_PROGRAM, bob=(NO, YES, YES), ann=ALL, cat=(YES, None, YES))
         told = house.go()
-        self.assertTrue(same(told, (("a", "ann", "ok"), ("b", "ann", "ok"), ("m", None, "ok"), ("a", "bob", "ok"), ("b", "bob", "ok"),
+        self.assertTrue(same(told,
+                             (("a", "ann", "ok"), ("b", "ann", "ok"), ("m", None, "ok"), ("a", "bob", "ok"),
+                              ("b", "bob", "ok"),
                                     ("a", "cat", "ok"), ("b", "cat", "ok"))))
         self.assertEqual((house.spent, house.outside.paid, house.outside.time), (18, 16, 1))
         self.assertEqual([told_of(page) for page in house.pages], [
@@ -234,10 +235,12 @@ class RoundTest(unittest.TestCase):
         self.assertEqual((house.spent, house.outside.paid, house.outside.time), (0, 0, 1))
 
     def test_names_that_begin_with_one_another(self):
-        program = Program(CLUB.replace("source b", "source aa").replace("b.y", "aa.y").replace("source m", "source aaa").replace("m.z", "aaa.z"))
+        program = Program(CLUB.replace("source b", "source aa").replace("b.y", "aa.y").replace("source m",
+            "source aaa").replace("m.z", "aaa.z"))
         house = begun(program, an=ALL, ann=ALL, a=(YES, NO, YES))
         self.assertEqual(house.go(("ok", "lost")), (
-            ("a", "a", "ok"), ("aa", "a", "lost"), ("aaa", None, "ok"), ("a", "an", "ok"), ("aa", "an", "ok"), ("a", "ann", "ok"), ("aa", "ann", "ok")))
+            ("a", "a", "ok"), ("aa", "a", "lost"), ("aaa", None, "ok"), ("a", "an", "ok"), ("aa", "an", "ok"),
+            ("a", "ann", "ok"), ("aa", "ann", "ok")))
         self.assertEqual(house.standing("a").lines, (("a.x", True, 2), ("aaa.z", True, 3)))
         self.assertEqual(house.go(("lost",)), (("aa", "a", "lost"),))
         self.assertEqual(house.standing("a").lines, (("a.x", True, 1), ("aaa.z", True, 2)))
@@ -253,7 +256,8 @@ class RoundTest(unittest.TestCase):
 
     def test_common_answers_are_known_to_all_open_cases(self):
         house = begun(CLUB_PROGRAM, ann=(YES, YES, NO), bob=(YES, YES, NO))
-        self.assertEqual(words(house.go(("lost", "lost", "ok", "lost", "lost"))), ["lost", "lost", "ok", "lost", "lost"])
+        self.assertEqual(words(house.go(("lost", "lost", "ok", "lost", "lost"))),
+                         ["lost", "lost", "ok", "lost", "lost"])
         self.assertEqual([told_of(page)[2:] for page in house.pages], [("halt", 1, Known((("m.z", False, 3),)))] * 2)
 
     def test_drawn_houses_end(self):
@@ -279,20 +283,27 @@ class RoundTest(unittest.TestCase):
 
 
 class RowsTest(unittest.TestCase):
-    TEXT = "round 1\nsource a price 1\n  x yes\nsource b price 5\n  x yes\ndecide go if a.x\ndecide go if b.x\notherwise halt"
-    SAME = "round 1\nsource a price 1\n  x yes\nsource b price 5\n  x yes\ndecide go if a.x and b.x\ndecide go if a.x\notherwise halt"
+    TEXT = TWICE.replace("decide go if a.x and b.x\ndecide go if a.x", "decide go if a.x\ndecide go if b.x")
 
     def test_the_row_is_none_if_several_are_open(self):
-        house = begun(Program(self.SAME), ann=(YES, NO))
+        house = begun(Program(TWICE), ann=(YES, NO))
         house.go()
         self.assertEqual(told_of(house.page("ann")), ("ann", 1, "go", None, Known((("a.x", True, None),))))
         self.assertEqual(house.spent, 2)
 
+    def test_without_rows_by_default(self):
+        house = House(Outside(Program(TWICE), (("ann", (YES, NO)),)))
+        house.begin("ann")
+        self.assertEqual(house.told("ann"), 2)
+        house.go()
+        self.assertEqual((house.page("ann").row, show_house(house).split("\n")[2]), (None, "rows no"))
+
     def test_a_house_with_rows_settles_the_row(self):
-        house = begun(Program(self.SAME), rows=True, ann=(YES, NO))
+        house = begun(Program(TWICE), rows=True, ann=(YES, NO))
         self.assertEqual(house.told("ann"), 7)
         house.go()
-        self.assertEqual(told_of(house.page("ann")), ("ann", 1, "go", 1, Known((("a.x", True, None), ("b.x", False, None)))))
+        self.assertEqual(told_of(house.page("ann")),
+                         ("ann", 1, "go", 1, Known((("a.x", True, None), ("b.x", False, None)))))
 
     def test_rows_told_by_the_facts(self):
         house = begun(Program(self.TEXT), ann=(YES, YES), bob=(NO, YES), cat=(NO, NO))
@@ -324,7 +335,8 @@ class TroubleTest(unittest.TestCase):
         self.assertEqual(lives, (("a.x", True, 1), ("b.y", True, 1), ("m.z", True, 2)))
 
     def test_what_is_lost_is_promised(self):
-        for word, promised in (("lost", True), ("late", True), ("crash", True), ("ok", True), ("twice", True), ("down", False)):
+        for word, promised in (("lost", True), ("late", True), ("crash", True), ("ok", True), ("twice", True),
+                               ("down", False)):
             house = begun(CLUB_PROGRAM, ann=ALL)
             house.go((word, "down", "down"))
             try:
@@ -347,7 +359,8 @@ class TroubleTest(unittest.TestCase):
         self.assertEqual(house.standing("ann").lines, (("a.x", True, 2), ("m.z", True, 3)))
         self.assertEqual(house.go(), ())
         self.assertEqual((house.spent, house.outside.paid, house.outside.time, coming(house)), (10, 8, 2, []))
-        self.assertEqual(told_of(house.page("ann")), ("ann", 2, "go", 0, Known((("a.x", True, 1), ("b.y", True, 0), ("m.z", True, 2)))))
+        self.assertEqual(told_of(house.page("ann")),
+                         ("ann", 2, "go", 0, Known((("a.x", True, 1), ("b.y", True, 0), ("m.z", True, 2)))))
 
     def test_late_with_no_life_left(self):
         house = begun(Program(CLUB.replace(" stay 1", " stay 0")), ann=ALL)
@@ -379,7 +392,9 @@ class TroubleTest(unittest.TestCase):
         """What comes with the next round is asked again all the same, as the standing ahead of the tick goes."""
         house = begun(CLUB_PROGRAM, ann=ALL, bob=ALL)
         house.go(("late", "lost", "lost", "late", "lost"))
-        self.assertEqual(house.go(("lost",)), (("a", "ann", "lost"), ("b", "ann", "ok"), ("m", None, "ok"), ("a", "bob", "ok"), ("b", "bob", "ok")))
+        self.assertEqual(house.go(("lost",)),
+                         (("a", "ann", "lost"), ("b", "ann", "ok"), ("m", None, "ok"), ("a", "bob", "ok"),
+                          ("b", "bob", "ok")))
         self.assertEqual(house.page("ann").known.lines[0], ("a.x", True, 1))
         self.assertEqual(house.page("bob").known.lines[0], ("a.x", True, 2))
 
@@ -414,7 +429,8 @@ class TroubleTest(unittest.TestCase):
 
     def test_twice(self):
         house = begun(CLUB_PROGRAM, ann=ALL, bob=ALL)
-        self.assertEqual(words(house.go(("twice", "lost", "twice", "lost", "lost"))), ["twice", "lost", "twice", "lost", "lost"])
+        self.assertEqual(words(house.go(("twice", "lost", "twice", "lost", "lost"))),
+                         ["twice", "lost", "twice", "lost", "lost"])
         self.assertEqual((house.spent, house.outside.paid), (14, 12))
         self.assertEqual(house.standing("ann").lines, (("a.x", True, 2), ("m.z", True, 3)))
         self.assertEqual(coming(house), ["coming a ann 1 yes", "coming m - 2 yes"])
@@ -432,7 +448,8 @@ class TroubleTest(unittest.TestCase):
     def test_a_common_source_that_is_down_for_all(self):
         house = begun(CLUB_PROGRAM, ann=ALL, bob=ALL)
         told = house.go(("ok", "ok", "down", "ok", "ok"))
-        self.assertEqual(told, (("a", "ann", "ok"), ("b", "ann", "ok"), ("m", None, "down"), ("a", "bob", "ok"), ("b", "bob", "ok")))
+        self.assertEqual(told, (("a", "ann", "ok"), ("b", "ann", "ok"), ("m", None, "down"), ("a", "bob", "ok"),
+                                ("b", "bob", "ok")))
         self.assertEqual((house.spent, house.cases), (10, ("ann", "bob")))
         self.assertEqual(house.go(), (("m", None, "ok"),))
         self.assertEqual((house.spent, house.cases), (16, ()))
@@ -440,17 +457,21 @@ class TroubleTest(unittest.TestCase):
     def test_a_crash(self):
         house = begun(CLUB_PROGRAM, ann=ALL, bob=ALL)
         told = house.go(("ok", "late", "twice", "crash", "late"))
-        self.assertEqual(told, (("a", "ann", "ok"), ("b", "ann", "late"), ("m", None, "twice"), ("a", "bob", "crash"), ("b", "bob", "none")))
+        self.assertEqual(told, (("a", "ann", "ok"), ("b", "ann", "late"), ("m", None, "twice"), ("a", "bob", "crash"),
+                                ("b", "bob", "none")))
         self.assertEqual((house.spent, house.outside.paid), (2 + 1 + 3 + 4 + 1, 9))
-        self.assertEqual((house.standing("ann"), house.standing("bob"), coming(house)), (Known(), Known(), ["coming b ann 0 yes"]))
+        self.assertEqual((house.standing("ann"), house.standing("bob"), coming(house)),
+                         (Known(), Known(), ["coming b ann 0 yes"]))
         self.assertEqual(len(house.go()), 5)
         self.assertEqual([page.outcome for page in house.pages], ["go", "go"])
 
     def test_what_a_crash_is_behind_and_ahead_of(self):
         for troubles, expected, spent in (
             (("crash",), ["crash", "none", "none"], 3), (("ok", "crash"), ["ok", "crash", "none"], 6),
-            (("down", "crash", "ok"), ["down", "crash", "none"], 5), (("lost", "down", "crash"), ["lost", "down", "crash"], 7),
-            (("crash", "crash", "down"), ["crash", "none", "none"], 3), (("twice", "late", "crash"), ["twice", "late", "crash"], 10),
+            (("down", "crash", "ok"), ["down", "crash", "none"], 5), (("lost", "down", "crash"),
+                ["lost", "down", "crash"], 7),
+            (("crash", "crash", "down"), ["crash", "none", "none"], 3),
+            (("twice", "late", "crash"), ["twice", "late", "crash"], 10),
         ):
             with self.subTest(troubles):
                 house = begun(CLUB_PROGRAM, ann=ALL)
@@ -460,7 +481,9 @@ class TroubleTest(unittest.TestCase):
 
     def test_a_common_source_behind_a_crash_is_told_once(self):
         house = begun(CLUB_PROGRAM, ann=ALL, bob=ALL)
-        self.assertEqual(house.go(("crash",)), (("a", "ann", "crash"), ("b", "ann", "none"), ("m", None, "none"), ("a", "bob", "none"), ("b", "bob", "none")))
+        self.assertEqual(house.go(("crash",)),
+                         (("a", "ann", "crash"), ("b", "ann", "none"), ("m", None, "none"), ("a", "bob", "none"),
+                          ("b", "bob", "none")))
 
     def test_what_came_earlier_is_kept_by_a_crash(self):
         house = begun(CLUB_PROGRAM, ann=ALL)
@@ -469,13 +492,15 @@ class TroubleTest(unittest.TestCase):
         self.assertEqual(house.standing("ann").lines, (("a.x", True, 1), ("b", True, 0), ("b.y", True, 0)))
 
     def test_fewer_and_more_words(self):
-        for troubles in ((), ("ok",), ("ok", "ok", "ok"), ("ok", "ok", "ok", "crash"), ("ok",) * 3 + ("lost", "down", "late") * 5):
+        for troubles in ((), ("ok",), ("ok", "ok", "ok"), ("ok", "ok", "ok", "crash"),
+                         ("ok",) * 3 + ("lost", "down", "late") * 5):
             house = begun(CLUB_PROGRAM, ann=ALL)
             self.assertEqual(words(house.go(troubles)), ["ok"] * 3)
             self.assertEqual((house.spent, house.page("ann").outcome), (10, "go"))
 
     def test_the_round_is_paid_only_if_an_ask_is_made(self):
-        for troubles, spent in ((("down",) * 3, 0), (("down", "down", "lost"), 6), (("lost",) * 3, 10), (("late",) * 3, 10), (("down", "crash"), 5)):
+        for troubles, spent in ((("down",) * 3, 0), (("down", "down", "lost"), 6), (("lost",) * 3, 10),
+                                (("late",) * 3, 10), (("down", "crash"), 5)):
             house = begun(CLUB_PROGRAM, ann=ALL)
             house.go(troubles)
             self.assertEqual(house.spent, spent)
@@ -484,7 +509,8 @@ class TroubleTest(unittest.TestCase):
         """By rounds alone a house does not come to this; by a text it does."""
         for late, lines in (
             ("coming a ann 0 no", (("a.x", True, 1), ("m.z", True, 2))), ("coming a ann 1 no", None),
-            ("coming m - 1 no", (("a.x", True, 1), ("m.z", True, 2))), ("coming m - 2 no", None), ("coming b ann 0 no", None),
+            ("coming m - 1 no", (("a.x", True, 1), ("m.z", True, 2))), ("coming m - 2 no", None),
+            ("coming b ann 0 no", None),
         ):
             house = house_of(CLUB_PROGRAM, ann=ALL)
             text = f"time 0\nspent 0\nrows no\ncommon m m.z yes for 3\ncase ann a.x yes for 2\n{late}"
@@ -497,7 +523,8 @@ class TroubleTest(unittest.TestCase):
 
     def test_one_longer_fact_of_the_source_is_enough(self):
         program = Program(CLUB.replace("  x yes", "  x yes\n  w yes").replace("a.x and", "a.x and a.w and"))
-        for known, lines in (("a.w yes for 0; a.x yes for 2", (("a.x", True, 1),)), ("a.x yes for 1", (("a.w", True, 0), ("a.x", True, 0))),
+        for known, lines in (("a.w yes for 0; a.x yes for 2", (("a.x", True, 1),)),
+                             ("a.x yes for 1", (("a.w", True, 0), ("a.x", True, 0))),
                              ("a.x yes for 0", (("a.w", True, 0), ("a.x", True, 0)))):
             outside = Outside(program, (("ann", ((True, True), YES, YES)),))
             house = read_house(outside, f"time 0\nspent 0\nrows no\ncase ann {known}\ncoming a ann 0 yes yes")
@@ -543,9 +570,26 @@ class StepsTest(unittest.TestCase):
             self.assertTrue(same(raised(NoPage, house.rest, value), value))
 
 
+class ImpossibleTest(unittest.TestCase):
+    """By a text a house may come to a standing with which no world agrees."""
+
+    def test_told_and_go_raise_as_plan_and_change_nothing(self):
+        outside = Outside(CLUB_PROGRAM, (("ann", ALL), ("bob", ALL)))
+        lines = ("case ann b no for 1; b.y yes for 1", "case bob -", "coming a bob 1 no")
+        house = read_house(outside, "\n".join(["time 0", "spent 0", "rows no", *lines]))
+        before = show_house(house)
+        for call in (lambda: house.told("ann"), house.go, lambda: house.go(("down",))):
+            self.assertEqual(raised(Impossible, call), Facts((("b", False), ("b.y", True))))
+        self.assertEqual((show_house(house), outside.time, outside.paid, house.told("bob")), (before, 0, 0, 10))
+        outside.tick()
+        outside.tick()
+        self.assertEqual(house.told("ann"), 10)
+
+
 class LoanTest(unittest.TestCase):
     def test_three_cases(self):
-        house = begun(LOAN_PROGRAM, eva=((20, "inside"), (3500, True), YES), tom=((12, "outside"), None, YES), sam=((20, "outside"), (100, False), YES))
+        house = begun(LOAN_PROGRAM, eva=((20, "inside"), (3500, True), YES), tom=((12, "outside"), None, YES),
+                      sam=((20, "outside"), (100, False), YES))
         told = sum(house.told(name) for name in house.cases)
         house.go()
         self.assertEqual((house.cases, house.spent <= told), ((), True))
@@ -574,7 +618,8 @@ class AgainstTheWordsTest(unittest.TestCase):
                 while waiting and draw.random() < 0.6:
                     house.begin(waiting[-1])
                     model.begin(waiting.pop())
-                troubles = tuple(draw.choice(("ok", "ok", "lost", "late", "twice", "down", "crash")) for _ in range(draw.randint(0, 9)))
+                troubles = tuple(draw.choice(("ok", "ok", "lost", "late", "twice", "down",
+                                              "crash")) for _ in range(draw.randint(0, 9)))
                 found = house.go(troubles)
                 self.assertTrue(same(found, model.go(troubles)))
                 self.assertEqual(state_of(house), state_of(model))

@@ -13,7 +13,8 @@ from onlyasked.programs import Program
 from onlyasked.standings import Known
 from samples import any_values, raised, same
 
-CLUB = ("round 2\nsource m price 4 stay 3 common\n  z yes\nsource a price 1 stay 2\n  x yes\n  n -5..9\nsource k price 2 maybe common\n  w lo hi\n"
+CLUB = ("round 2\nsource m price 4 stay 3 common\n  z yes\nsource a price 1 stay 2\n  x yes\n  n -5..9\n"
+        "source k price 2 maybe common\n  w lo hi\n"
         "source b price 3 stay 1 maybe\n  y yes\ndecide go if a.x and b.y and m.z\notherwise halt")
 PROGRAM = Program(CLUB)
 OTHER = CLUB.replace("otherwise halt", "otherwise other")
@@ -38,9 +39,12 @@ def program_lines(text=OTHER):
 
 
 FULL = text_of(
-    "common m m.z yes for 2", "common k k no for ever", "case ann a.n 4 for 1; a.x yes for 2", "case bob -", "coming a ann 1 yes 4", "coming m - 2 yes",
-    "coming b bob 0 none", "page ann 1 go 0 a.x yes for 2; b.y yes for 1; m.z yes for 3", "page cat 0 halt - -", "page ann 3 wait - k.w lo for ever",
-    "page bob 2 none 12 a.n -5 for 0", "rest cat a.x no for 0; k no for 2", "revised ann,bob", *program_lines(), "revised -", *program_lines(CLUB))
+    "common m m.z yes for 2", "common k k no for ever", "case ann a.n 4 for 1; a.x yes for 2", "case bob -",
+    "coming a ann 1 yes 4", "coming m - 2 yes",
+    "coming b bob 0 none", "page ann 1 go 0 a.x yes for 2; b.y yes for 1; m.z yes for 3", "page cat 0 halt - -",
+    "page ann 3 wait - k.w lo for ever",
+    "page bob 2 none 12 a.n -5 for 0", "rest cat a.x no for 0; k no for 2", "revised ann,bob", *program_lines(),
+    "revised -", *program_lines(CLUB))
 
 
 def line_of(text, one=None):
@@ -71,7 +75,8 @@ class ShowTest(unittest.TestCase):
         self.assertEqual(show_house(House(outside(3), rows=True)), "time 3\nspent 0\nrows yes")
 
     def test_all_kinds_of_lines(self):
-        one = Outside(PROGRAM, (("ann", TRUTH), ("bob", ((True,), (True, -5), None, (True,))), ("cat", ((True,), (False, 0), None, None))))
+        one = Outside(PROGRAM, (("ann", TRUTH), ("bob", ((True,), (True, -5), None, (True,))),
+                                ("cat", ((True,), (False, 0), None, None))))
         house = House(one)
         for name in ("cat", "ann", "bob"):
             house.begin(name)
@@ -79,17 +84,23 @@ class ShowTest(unittest.TestCase):
         self.assertEqual(len(house.go(("late", "lost", "ok", "ok", "ok", "lost", "late"))), 7)
         house.revise(Program(OTHER))
         self.assertEqual(show_house(house), "\n".join([
-            "time 1", f"spent {house.spent}", "rows no", "common m m.z yes for 3", "case ann -", "case cat -", "coming a ann 1 yes 4", "coming b cat 0 none",
-            "page bob 1 go 0 a.x yes for 2; b.y yes for 1; m.z yes for 3", "rest bob a.x yes for 2; b.y yes for 1; m.z yes for 3", "revised -", *program_lines(CLUB)]))
+            "time 1", f"spent {house.spent}", "rows no", "common m m.z yes for 3", "case ann -", "case cat -",
+            "coming a ann 1 yes 4", "coming b cat 0 none",
+            "page bob 1 go 0 a.x yes for 2; b.y yes for 1; m.z yes for 3",
+            "rest bob a.x yes for 2; b.y yes for 1; m.z yes for 3", "revised -", *program_lines(CLUB)]))
         for _ in range(2):
             one.tick()
         house.revise(Program(OTHER.replace("decide go", "decide stop")))
         self.assertEqual(show_house(house).split("\n")[3:8], [
-            "common m m.z yes for 1", "case ann -", "case bob a.x yes for 0", "case cat -", "page bob 1 go 0 a.x yes for 2; b.y yes for 1; m.z yes for 3"])
-        self.assertEqual([line for line in show_house(house).split("\n") if line.startswith("revised")], ["revised -", "revised bob"])
+            "common m m.z yes for 1", "case ann -", "case bob a.x yes for 0", "case cat -",
+            "page bob 1 go 0 a.x yes for 2; b.y yes for 1; m.z yes for 3"])
+        self.assertEqual([line for line in show_house(house).split("\n") if line.startswith("revised")],
+                         ["revised -", "revised bob"])
         house.undo()
-        self.assertEqual([line for line in show_house(house).split("\n") if line.startswith(("revised", "rest", "page"))],
-                         ["page bob 1 go 0 a.x yes for 2; b.y yes for 1; m.z yes for 3", "rest bob a.x yes for 0; m.z yes for 1", "revised -"])
+        self.assertEqual([line for line in show_house(house).split("\n") if line.startswith(("revised", "rest",
+            "page"))],
+                         ["page bob 1 go 0 a.x yes for 2; b.y yes for 1; m.z yes for 3",
+                          "rest bob a.x yes for 0; m.z yes for 1", "revised -"])
 
     def test_answers_that_never_come_have_no_line(self):
         one = outside()
@@ -99,7 +110,8 @@ class ShowTest(unittest.TestCase):
         self.assertEqual([line for line in show_house(house).split("\n") if line.startswith("coming")],
                          ["coming a ann 1 yes 4", "coming b ann 0 no", "coming m - 2 yes"])
         one.tick()
-        self.assertEqual([line for line in show_house(house).split("\n") if line.startswith("coming")], ["coming a ann 0 yes 4", "coming m - 1 yes"])
+        self.assertEqual([line for line in show_house(house).split("\n") if line.startswith("coming")],
+                         ["coming a ann 0 yes 4", "coming m - 1 yes"])
 
 
 class ReadTest(unittest.TestCase):
@@ -111,9 +123,11 @@ class ReadTest(unittest.TestCase):
         self.assertIs(house.program, PROGRAM)
         self.assertTrue(same((house.spent, house.cases, one.time, one.paid), (5, ("ann", "bob"), 0, 0)))
         self.assertEqual([told_of(page) for page in house.pages], [
-            ("ann", 1, "go", 0, Known((("a.x", True, 2), ("b.y", True, 1), ("m.z", True, 3)))), ("cat", 0, "halt", None, Known()),
+            ("ann", 1, "go", 0, Known((("a.x", True, 2), ("b.y", True, 1), ("m.z", True, 3)))),
+            ("cat", 0, "halt", None, Known()),
             ("ann", 3, "wait", None, Known((("k.w", "lo", None),))), ("bob", 2, "none", 12, Known((("a.n", -5, 0),)))])
-        self.assertEqual(house.standing("ann").lines, (("a.n", 4, 1), ("a.x", True, 2), ("k", False, None), ("m.z", True, 2)))
+        self.assertEqual(house.standing("ann").lines,
+                         (("a.n", 4, 1), ("a.x", True, 2), ("k", False, None), ("m.z", True, 2)))
         self.assertEqual(house.standing("bob").lines, (("k", False, None), ("m.z", True, 2)))
         self.assertEqual(house.rest("cat").lines, (("a.x", False, 0), ("k", False, 2)))
         self.assertEqual(told_of(house.page("cat")), told_of(house.pages[1]))
@@ -128,14 +142,25 @@ class ReadTest(unittest.TestCase):
         self.assertEqual((house.cases, len(house.pages)), (("ann",), 1))
 
     def test_undo_of_what_was_read(self):
-        text = text_of("case ann a.x yes for 2", "case bob a.x yes for 1", "page ann 0 go 0 a.x yes for 2; b.y yes for 1", "page cat 0 stop 0 -", "page bob 0 halt 1 a.x no for 2",
-                       "rest cat -", "revised bob", *program_lines(CLUB.replace("round 2", "round 5")), "revised ann", *program_lines())
+        text = text_of("case ann a.x yes for 2", "case bob a.x yes for 1",
+                       "page ann 0 go 0 a.x yes for 2; b.y yes for 1", "page cat 0 stop 0 -",
+                       "page bob 0 halt 1 a.x no for 2",
+                       "rest cat -", "revised bob", *program_lines(CLUB.replace("round 2", "round 5")), "revised ann",
+                       *program_lines())
         house = read_house(outside(), text)
         self.assertEqual(house.undo(), (("ann",), ("cat",)))
         self.assertEqual((house.program.text, house.outside.program.text, house.cases), (OTHER, OTHER, ("bob", "cat")))
         self.assertEqual(house.rest("ann").lines, (("a.x", True, 2), ("b.y", True, 1)))
         self.assertEqual(house.undo(), (("bob",), ("ann",)))
         self.assertEqual((house.program.round_price, house.cases), (5, ("ann", "cat")))
+
+    def test_who_is_decided_again_is_not_held_against_the_program(self):
+        """A page of that text need not settle what it says; undo takes it as it is."""
+        text = text_of("case ann a.x yes for 2", "page ann 7 zebra 3 b.y yes for 1", "revised ann", *program_lines())
+        house = read_house(outside(), text)
+        self.assertEqual(house.undo(), (("ann",), ()))
+        self.assertEqual((house.page("ann").outcome, house.rest("ann").lines, house.cases),
+                         ("zebra", (("b.y", True, 1),), ()))
 
     def test_rows(self):
         house = read_house(outside(), "time 0\nspent 0\nrows yes\ncase ann a.x yes for 0; b.y no for 0")
@@ -146,7 +171,8 @@ class ReadTest(unittest.TestCase):
 
     def test_contradicting_texts_are_read_all_the_same(self):
         """Whether a house could have come to this is not asked."""
-        for line in ("case ann a.x yes for 0; b no for 1; b.y yes for 1", "common k k no for ever; k.w lo for 2", "page ann 7 zebra 99 a.x yes for 0", "coming a ann 2 no 9",
+        for line in ("case ann a.x yes for 0; b no for 1; b.y yes for 1", "common k k no for ever; k.w lo for 2",
+                     "page ann 7 zebra 99 a.x yes for 0", "coming a ann 2 no 9",
                      "coming b ann 1 yes", "coming k - 0 lo", "coming m - 3 no", "common k k.w hi for 0"):
             self.assertIsNone(line_of(text_of(line)))
         self.assertIsNone(line_of(text_of("coming a ann 2 no 9", "coming a ann 2 no 9", "coming a ann 1 yes 0")))
@@ -163,9 +189,12 @@ class AnyValueTest(unittest.TestCase):
 class HeadTest(unittest.TestCase):
     def test_the_first_three_lines(self):
         for lines, line in (
-            (["time 0"], 1), (["time 0", "spent 0"], 2), ([""], 0), (["time 0", ""], 1), (["time 0", "spent 0", ""], 2), (["spent 0", "time 0", "rows no"], 0),
-            (["time 0", "rows no", "spent 0"], 1), (["time 0", "time 0", "spent 0", "rows no"], 1), (["time 0", "spent 0", "rows no", ""], 3),
-            (["time 0", "spent 0", "rows no", "rows no"], 3), (["time 0", "spent 0", "rows no", "time 0"], 3), (["time 0", "spent 0", "spent 0", "rows no"], 2),
+            (["time 0"], 1), (["time 0", "spent 0"], 2), ([""], 0), (["time 0", ""], 1), (["time 0", "spent 0", ""], 2),
+            (["spent 0", "time 0", "rows no"], 0),
+            (["time 0", "rows no", "spent 0"], 1), (["time 0", "time 0", "spent 0", "rows no"], 1),
+            (["time 0", "spent 0", "rows no", ""], 3),
+            (["time 0", "spent 0", "rows no", "rows no"], 3), (["time 0", "spent 0", "rows no", "time 0"], 3),
+            (["time 0", "spent 0", "spent 0", "rows no"], 2),
             (["time 0", "spent 0", "common m m.z yes for 2"], 2), (["case ann -"], 0),
         ):
             with self.subTest(lines):
@@ -187,10 +216,12 @@ class HeadTest(unittest.TestCase):
         self.assertIsNone(line_of("time 4\nspent 0\nrows no", outside(4)))
 
     def test_other_time_comes_behind_bad_text(self):
-        for text, line in (("time 1\nspent 0\nrows maybe", 2), ("time 1\nspent 0\nrows no\ncase eve -", 3), ("time 1\nspent 0", 2)):
+        for text, line in (("time 1\nspent 0\nrows maybe", 2), ("time 1\nspent 0\nrows no\ncase eve -", 3),
+                           ("time 1\nspent 0", 2)):
             self.assertEqual(raised(BadText, read_house, outside(), text), line)
         lines = FULL.replace("time 0", "time 3").split("\n")
-        self.assertEqual(raised(BadText, read_house, outside(), "\n".join([*lines[:-1], "  otherwise"])), len(lines) - len(program_lines()) - 1)
+        self.assertEqual(raised(BadText, read_house, outside(), "\n".join([*lines[:-1], "  otherwise"])),
+                         len(lines) - len(program_lines()) - 1)
 
 
 class LinesTest(unittest.TestCase):
@@ -215,52 +246,82 @@ class LinesTest(unittest.TestCase):
                 self.refused(*([page] if line == "rest bob -" else []), line, earlier)
 
     def test_unknown_lines(self):
-        for line in ("", " ", "case", "Case ann -", "cases ann -", "time 0", "note", "  round 1", "-", " case ann -", "case  ann -", "case ann  -", "case ann - ", "case ann"):
+        for line in ("", " ", "case", "Case ann -", "cases ann -", "time 0", "note", "  round 1", "-", " case ann -",
+                     "case  ann -", "case ann  -", "case ann - ", "case ann"):
             self.refused(line)
             self.refused("case ann -", line)
+
+    def test_lines_with_too_few_words(self):
+        before = ["page ann 0 go 0 -"]
+        for line in ("common m m.z yes for 2", "case ann -", "coming a ann 1 yes 4", "page ann 1 go 0 -", "rest ann -",
+                     "revised -"):
+            words = line.split(" ")
+            for many in range(1, len(words)):
+                self.refused(*(before if line.startswith("rest") else []), " ".join(words[:many]))
 
     def test_common(self):
         self.taken("common m m.z no for 3", "common k k yes for 2; k.w hi for ever")
         self.taken("common k k.w hi for 0")
-        for line in ("common m -", "common m", "common m ", "common a a.x yes for 1", "common x m.z yes for 1", "common m.z m.z yes for 1", "common m a.x yes for 1",
-                     "common m k no for 1", "common m m.z yes for ever", "common m m.z lo for 1", "common m m.y yes for 1", "common m m yes for 1", "common k k lo for 1",
-                     "common k k.w far for 1", "common m m.z yes for 4", "common m m.z yes", "common m m.z yes for 1; m.z yes for 1", "common - m.z yes for 1",
-                     "common k k.w lo for 1; k no for 1", "common m m.z yes for 1; k no for 1", "common m 1 m.z yes for 1"):
+        for line in ("common m -", "common m", "common m ", "common a a.x yes for 1", "common x m.z yes for 1",
+                     "common m.z m.z yes for 1", "common m a.x yes for 1",
+                     "common m k no for 1", "common m m.z yes for ever", "common m m.z lo for 1",
+                     "common m m.y yes for 1", "common m m yes for 1", "common k k lo for 1",
+                     "common k k.w far for 1", "common m m.z yes for 4", "common m m.z yes",
+                     "common m m.z yes for 1; m.z yes for 1", "common - m.z yes for 1",
+                     "common k k.w lo for 1; k no for 1", "common m m.z yes for 1; k no for 1",
+                     "common m 1 m.z yes for 1"):
             self.refused(line)
         self.refused("common m m.z no for 3", "common m m.z no for 3")
         self.refused("common k k no for 3", "common m m.z no for 3")
 
     def test_case(self):
-        self.taken("case ann -", "case bob a.n -5 for 0; a.x no for 2; b yes for 1; b.y no for 0", "case dan b no for 1")
-        for line in ("case eve -", "case ann,bob -", "case - -", "case ann m.z yes for 1", "case ann a.x yes for 3", "case ann a.x yes for ever", "case ann b no for 2",
-                     "case ann a.n 10 for 1", "case ann a.n -6 for 1", "case ann a.n yes for 1", "case ann a.x 1 for 1", "case ann a yes for 1", "case ann c.x yes for 1",
-                     "case ann b 0 for 1", "case ann b.y none for 1", "case ann k.w lo for 1", "case ann a.x yes for 1; m.z yes for 1", "case ann a.x yes for 1; a.n 1 for 1"):
+        self.taken("case ann -", "case bob a.n -5 for 0; a.x no for 2; b yes for 1; b.y no for 0",
+                   "case dan b no for 1")
+        for line in ("case eve -", "case ann,bob -", "case - -", "case ann m.z yes for 1", "case ann a.x yes for 3",
+                     "case ann a.x yes for ever", "case ann b no for 2",
+                     "case ann a.n 10 for 1", "case ann a.n -6 for 1", "case ann a.n yes for 1", "case ann a.x 1 for 1",
+                     "case ann a yes for 1", "case ann c.x yes for 1",
+                     "case ann b 0 for 1", "case ann b.y none for 1", "case ann k.w lo for 1",
+                     "case ann a.x yes for 1; m.z yes for 1", "case ann a.x yes for 1; a.n 1 for 1"):
             self.refused(line)
         self.refused("case ann -", "case ann -")
         self.refused("case bob -", "case ann -")
 
     def test_coming(self):
-        self.taken("coming a ann 2 yes -5", "coming b dan 1 none", "coming b ann 0 yes", "coming m - 3 no", "coming k - ever none", "coming k - 0 hi", "coming a ann 0 no 9")
-        for line in ("coming a ann 3 yes 4", "coming a ann ever yes 4", "coming b ann 2 yes", "coming m - 4 yes", "coming m - ever yes", "coming m ann 2 yes", "coming a - 2 yes 4",
-                     "coming a eve 2 yes 4", "coming x ann 2 yes", "coming a ann 2 yes", "coming a ann 2 4 yes", "coming a ann 2 yes 10", "coming a ann 2 none", "coming a ann 2",
-                     "coming a ann 2 ", "coming a ann 2 yes 4 4", "coming a ann -1 yes 4", "coming a ann 02 yes 4", "coming a ann yes 4", "coming b ann 1 none none", "coming b ann 1 lo",
-                     "coming k - 2 far", "coming k - 2 yes", "coming k - 2 none hi", "coming m - 2 yes / no", "coming a ann 2 yes  4", "coming a ann 2 1 4", "coming a ann 2 yes yes",
+        self.taken("coming a ann 2 yes -5", "coming b dan 1 none", "coming b ann 0 yes", "coming m - 3 no",
+                   "coming k - ever none", "coming k - 0 hi", "coming a ann 0 no 9")
+        for line in ("coming a ann 3 yes 4", "coming a ann ever yes 4", "coming b ann 2 yes", "coming m - 4 yes",
+                     "coming m - ever yes", "coming m ann 2 yes", "coming a - 2 yes 4",
+                     "coming a eve 2 yes 4", "coming x ann 2 yes", "coming a ann 2 yes", "coming a ann 2 4 yes",
+                     "coming a ann 2 yes 10", "coming a ann 2 none", "coming a ann 2",
+                     "coming a ann 2 ", "coming a ann 2 yes 4 4", "coming a ann -1 yes 4", "coming a ann 02 yes 4",
+                     "coming a ann yes 4", "coming b ann 1 none none", "coming b ann 1 lo",
+                     "coming k - 2 far", "coming k - 2 yes", "coming k - 2 none hi", "coming m - 2 yes / no",
+                     "coming a ann 2 yes  4", "coming a ann 2 1 4", "coming a ann 2 yes yes",
                      "coming - ann 2 yes 4", "coming a  2 yes 4"):
             self.refused(line)
 
     def test_page(self):
-        self.taken("page ann 0 go 0 -", "page ann 999999999999 otherwise 999999999999 a.x yes for 2; b no for 1; k.w lo for ever; m.z no for 3", "page dan 3 x - -")
-        for line in ("page eve 0 go 0 -", "page - 0 go 0 -", "page ann -1 go 0 -", "page ann 01 go 0 -", "page ann 1000000000000 go 0 -", "page ann x go 0 -", "page ann 0 Go 0 -",
-                     "page ann 0 xxxxxxxxxxxxx 0 -", "page ann 0 5 0 -", "page ann 0 - 0 -", "page ann 0 go -1 -", "page ann 0 go 00 -", "page ann 0 go 1000000000000 -",
-                     "page ann 0 go x -", "page ann 0 go none -", "page ann 0 go 0", "page ann 0 go 0 ", "page ann 0 go - - -", "page ann 0 go 0 a.x yes for 3", "page ann 0 go 0 a.x yes for ever",
-                     "page ann 0 go 0 k.w far for 1", "page ann 0 go 0 c.x yes for 1", "page ann 0 go 0 b.y yes for 1; a.x yes for 1", "page ann 0 go 0 a.x yes", "page ann 0 go 0 m.z yes for 4"):
+        self.taken("page ann 0 go 0 -",
+                   "page ann 999999999999 otherwise 999999999999 a.x yes for 2; b no for 1; k.w lo for ever",
+                   "page dan 3 x - -")
+        for line in ("page eve 0 go 0 -", "page - 0 go 0 -", "page ann -1 go 0 -", "page ann 01 go 0 -",
+                     "page ann 1000000000000 go 0 -", "page ann x go 0 -", "page ann 0 Go 0 -",
+                     "page ann 0 xxxxxxxxxxxxx 0 -", "page ann 0 5 0 -", "page ann 0 - 0 -", "page ann 0 go -1 -",
+                     "page ann 0 go 00 -", "page ann 0 go 1000000000000 -",
+                     "page ann 0 go x -", "page ann 0 go none -", "page ann 0 go 0", "page ann 0 go 0 ",
+                     "page ann 0 go - - -", "page ann 0 go 0 a.x yes for 3", "page ann 0 go 0 a.x yes for ever",
+                     "page ann 0 go 0 k.w far for 1", "page ann 0 go 0 c.x yes for 1",
+                     "page ann 0 go 0 b.y yes for 1; a.x yes for 1", "page ann 0 go 0 a.x yes",
+                     "page ann 0 go 0 m.z yes for 4"):
             self.refused(line)
 
     def test_rest(self):
         pages = ["page ann 0 go 0 -", "page bob 0 go 0 -"]
         self.taken(*pages, "rest ann a.x yes for 2; k no for ever; m.z no for 0", "rest bob -")
         self.taken(*pages, "rest bob -")
-        for line in ("rest cat -", "rest eve -", "rest - -", "rest ann", "rest ann ", "rest ann a.x yes for 3", "rest ann a.x yes for ever", "rest ann m.z yes for ever", "rest ann c.x yes for 1",
+        for line in ("rest cat -", "rest eve -", "rest - -", "rest ann", "rest ann ", "rest ann a.x yes for 3",
+                     "rest ann a.x yes for ever", "rest ann m.z yes for ever", "rest ann c.x yes for 1",
                      "rest ann a.x lo for 1", "rest ann a.x yes", "rest ann,bob -", "rest ann - -"):
             self.refused(*pages, line)
         self.refused(*pages, "rest ann -", "rest ann -")
@@ -269,11 +330,13 @@ class LinesTest(unittest.TestCase):
         self.refused("rest ann -", *pages, at=0)
 
     def test_revised(self):
-        before = ["case ann -", "case bob -", "page ann 0 go 0 -", "page bob 0 go 0 -", "page cat 0 go 0 -", "rest cat -"]
+        before = ["case ann -", "case bob -", "page ann 0 go 0 -", "page bob 0 go 0 -", "page cat 0 go 0 -",
+                  "rest cat -"]
         for names in ("-", "ann", "bob", "ann,bob"):
             self.taken(*before, f"revised {names}", *program_lines())
             self.taken(*before, f"revised {names}", *program_lines(), f"revised {names}", *program_lines(CLUB))
-        for names in ("", "bob,ann", "ann,ann", "cat", "ann,cat", "dan", "eve", "ann bob", "ann, bob", "ann,", ",ann", "ann,-", "- -", "-,ann", " ann", "ann "):
+        for names in ("", "bob,ann", "ann,ann", "cat", "ann,cat", "dan", "eve", "ann bob", "ann, bob", "ann,", ",ann",
+                      "ann,-", "- -", "-,ann", " ann", "ann "):
             self.refused(*before, f"revised {names}", *program_lines(), at=6)
         self.refused(*before, "revised", *program_lines(), at=6)
         self.refused("case ann -", "revised ann", *program_lines(), at=1)
@@ -282,10 +345,14 @@ class LinesTest(unittest.TestCase):
     def test_the_program_of_a_revise(self):
         self.taken("revised -", *program_lines(CLUB.replace("round 2", "round 9")))
         for lines in (
-            [], ["round 2"], program_lines()[:-1], program_lines("round 2"), [*program_lines(), "  "], [*program_lines(), "  otherwise x"],
-            program_lines(CLUB.replace("price 4", "price 5")), program_lines(CLUB.replace("stay 3", "stay 2")), program_lines(CLUB.replace(" maybe common", " maybe")),
-            program_lines(CLUB.replace("maybe common", "common").replace("source k", "source k")), program_lines(CLUB.replace("lo hi", "hi lo")), program_lines(CLUB.replace("-5..9", "-5..8")),
-            program_lines(CLUB.replace("a.x and", "a.z and")), program_lines(CLUB.replace("go if", "if if")), program_lines(CLUB.replace("decide", "given false\ndecide")),
+            [], ["round 2"], program_lines()[:-1], program_lines("round 2"), [*program_lines(), "  "],
+            [*program_lines(), "  otherwise x"],
+            program_lines(CLUB.replace("price 4", "price 5")), program_lines(CLUB.replace("stay 3", "stay 2")),
+            program_lines(CLUB.replace(" maybe common", " maybe")),
+            program_lines(CLUB.replace("maybe common", "common").replace("source k", "source k")),
+            program_lines(CLUB.replace("lo hi", "hi lo")), program_lines(CLUB.replace("-5..9", "-5..8")),
+            program_lines(CLUB.replace("a.x and", "a.z and")), program_lines(CLUB.replace("go if", "if if")),
+            program_lines(CLUB.replace("decide", "given false\ndecide")),
             [f" {line}" for line in program_lines()], [line[1:] for line in program_lines()], CLUB.split("\n"),
             program_lines(CLUB.replace("source a", "source c").replace("a.x", "c.x")),
         ):
@@ -301,7 +368,8 @@ class LinesTest(unittest.TestCase):
             if line.startswith("  "):
                 continue
             places = [place for place, sign in enumerate(line) if sign == " "]
-            for other in [line + " ", " " + line, *[line[:place] + " " + line[place:] for place in places], *[line[:place] + line[place + 1:] for place in places]]:
+            for other in [line + " ", " " + line, *[line[:place] + " " + line[place:] for place in places],
+                          *[line[:place] + line[place + 1:] for place in places]]:
                 with self.subTest(other):
                     self.assertEqual(line_of("\n".join([*lines[:at], other, *lines[at + 1:]])), at)
 
@@ -322,10 +390,12 @@ class LinesTest(unittest.TestCase):
                 self.assertEqual(twice, at + 1)
             elif kind == "revised":
                 self.assertEqual(twice, at)
-        for left, refused in (("case ann a.n 4 for 1; a.x yes for 2", "revised ann,bob"), ("case bob -", "revised ann,bob"), ("page cat 0 halt - -", "rest cat"),
+        for left, refused in (("case ann a.n 4 for 1; a.x yes for 2", "revised ann,bob"),
+                              ("case bob -", "revised ann,bob"), ("page cat 0 halt - -", "rest cat"),
                               ("page bob 2 none 12 a.n -5 for 0", "revised ann,bob")):
             other = [line for line in lines if line != left]
-            self.assertEqual(line_of("\n".join(other)), [at for at, line in enumerate(other) if line.startswith(refused)][0])
+            self.assertEqual(line_of("\n".join(other)),
+                             [at for at, line in enumerate(other) if line.startswith(refused)][0])
 
 
 class ChangedTextsTest(unittest.TestCase):
@@ -336,13 +406,15 @@ class ChangedTextsTest(unittest.TestCase):
         for _ in range(4000):
             at = draw.randrange(len(FULL))
             sign = draw.choice("abknmyes 012-;./,\n")
-            other = draw.choice((FULL[:at] + FULL[at + 1:], FULL[:at] + sign + FULL[at:], FULL[:at] + sign + FULL[at + 1:]))
+            other = draw.choice((FULL[:at] + FULL[at + 1:], FULL[:at] + sign + FULL[at:],
+                                 FULL[:at] + sign + FULL[at + 1:]))
             line = line_of_other_time(other)
             seen[line is None] += 1
             if line is not None:
                 self.assertLessEqual(line, len(other.split("\n")))
                 changed = FULL[:at].count("\n")
-                block = max(place for place, one in enumerate(FULL.split("\n")[:changed + 1]) if not one.startswith("  "))
+                block = max(place for place,
+                            one in enumerate(FULL.split("\n")[:changed + 1]) if not one.startswith("  "))
                 self.assertGreaterEqual(line, block)
         self.assertGreater(min(seen.values()), 150)
 
@@ -395,7 +467,8 @@ class HistoriesTest(unittest.TestCase):
         if kind < 0.2:
             return [lambda one: one.begin(name)]
         if kind < 0.6:
-            troubles = tuple(draw.choice(("ok", "ok", "ok", "lost", "late", "twice", "down", "crash")) for _ in range(6))
+            troubles = tuple(draw.choice(("ok", "ok", "ok", "lost", "late", "twice", "down",
+                                          "crash")) for _ in range(6))
             return [lambda one: one.go(troubles)]
         if kind < 0.65:
             return [lambda one: one.outside.tick()]

@@ -14,7 +14,8 @@ BOTH_PROGRAM, LOAN_PROGRAM = Program(BOTH), Program(LOAN)
 YES, NO = (True,), (False,)
 EVA = ((20, "inside"), (3500, True), YES)
 TOM = ((12, "outside"), None, YES)
-KINDS = Program("round 1\nsource a price 2 stay 2\n  n 0..9\nsource b price 3\n  x yes\nsource c price 4 stay 0\n  x yes\n"
+KINDS = Program("round 1\nsource a price 2 stay 2\n  n 0..9\nsource b price 3\n  x yes\n"
+                "source c price 4 stay 0\n  x yes\n"
                 "source m price 5 stay 1 maybe common\n  x yes\nsource k price 6 common\n  x yes\n"
                 "given a.n < 9 or c.x\ndecide go if a.n > 4\notherwise halt")
 ONE = ((0,), NO, NO, NO, NO)
@@ -29,7 +30,8 @@ def kinds(many=2):
 
 
 def state(outside):
-    return (outside.program, outside.time, outside.subjects, outside.paid, [outside.truth(name) for name in outside.subjects])
+    return (outside.program, outside.time, outside.subjects, outside.paid,
+            [outside.truth(name) for name in outside.subjects])
 
 
 def ticked(outside, many):
@@ -43,7 +45,8 @@ def changed(world, at, answer):
 
 
 class NamesTest(unittest.TestCase):
-    METHODS = {"__init__": ["self", "program", "worlds"], "truth": ["self", "subject"], "ask": ["self", "source", "subject"],
+    METHODS = {"__init__": ["self", "program", "worlds"], "truth": ["self", "subject"],
+               "ask": ["self", "source", "subject"],
                "put": ["self", "subject", "world"], "put_common": ["self", "source", "answer"],
                "release": ["self", "source", "subject"], "tick": ["self"], "copy": ["self"]}
 
@@ -84,7 +87,8 @@ class NewOutsideTest(unittest.TestCase):
     def test_names_of_subjects(self):
         for name in ("a", "x" * 12, "person", "adult", "grant", "inside"):
             self.assertEqual(Outside(LOAN_PROGRAM, ((name, EVA),)).subjects, (name,))
-        for name in ("", "x" * 13, "Eva", "eva1", "e v", "round", "no", "yes", "none", "in", "ev-a", 1, None, True, ("eva",), ["eva"]):
+        for name in ("", "x" * 13, "Eva", "eva1", "e v", "round", "no", "yes", "none", "in", "ev-a", 1, None, True,
+                     ("eva",), ["eva"]):
             value = ((name, EVA),)
             self.assertEqual(raised(BadWorlds, Outside, LOAN_PROGRAM, value), value)
 
@@ -95,14 +99,18 @@ class NewOutsideTest(unittest.TestCase):
             self.assertTrue(same(raised(BadWorlds, Outside, LOAN_PROGRAM, (("eva", value),)), (("eva", value),)))
             if not same(value, "a"):
                 self.assertTrue(same(raised(BadWorlds, Outside, LOAN_PROGRAM, ((value, EVA),)), ((value, EVA),)))
-            self.assertTrue(same(raised(BadWorlds, Outside, LOAN_PROGRAM, (("eva", EVA), value)), (("eva", EVA), value)))
+            self.assertTrue(same(raised(BadWorlds, Outside, LOAN_PROGRAM, (("eva", EVA), value)),
+                                 (("eva", EVA), value)))
 
     def test_what_is_no_worlds(self):
         for value in (
-            [("eva", EVA)], (["eva", EVA],), (("eva",),), (("eva", EVA, EVA),), ("eva", EVA), (("eva", EVA), ("eva", EVA)),
-            (("eva", EVA), ("tom", TOM), ("eva", EVA)), (("eva", ((20, "inside"), (3500, True))),), (("eva", (*EVA, YES)),),
+            [("eva", EVA)], (["eva", EVA],), (("eva",),), (("eva", EVA, EVA),), ("eva", EVA),
+            (("eva", EVA), ("eva", EVA)),
+            (("eva", EVA), ("tom", TOM), ("eva", EVA)), (("eva", ((20, "inside"), (3500, True))),),
+            (("eva", (*EVA, YES)),),
             (("eva", [*EVA]),), (("eva", ([20, "inside"], None, YES)),), (("eva", ((20, "inside"), (3500, 1), YES)),),
-            (("eva", ((20, "inside"), (True, True), YES)),), (("eva", ((121, "inside"), None, YES)),), (("eva", ((20, "in"), None, YES)),),
+            (("eva", ((20, "inside"), (True, True), YES)),), (("eva", ((121, "inside"), None, YES)),),
+            (("eva", ((20, "in"), None, YES)),),
             (("eva", ((20, "inside"), None, None)),), (("eva", ((13, "inside"), (5, True), YES)),),
             (("eva", EVA), ("tom", changed(TOM, 2, NO))), (("eva", changed(EVA, 2, NO)), ("tom", TOM), ("ann", TOM)),
             ((("eva", EVA),),), (("eva", EVA), ("tom", None)),
@@ -122,8 +130,10 @@ class AskTest(unittest.TestCase):
     def test_answers_and_prices(self):
         outside = two()
         told = [(outside.ask(source, name), outside.paid) for source, name in
-                (("person", "eva"), ("work", "eva"), ("work", "tom"), ("market", "tom"), ("market", "tom"), ("person", "eva"))]
-        self.assertEqual(told, [((20, "inside"), 2), ((3500, True), 5), (None, 8), (YES, 9), (YES, 10), ((20, "inside"), 12)])
+                (("person", "eva"), ("work", "eva"), ("work", "tom"), ("market", "tom"), ("market", "tom"),
+                 ("person", "eva"))]
+        self.assertEqual(told, [((20, "inside"), 2), ((3500, True), 5), (None, 8), (YES, 9), (YES, 10),
+                                ((20, "inside"), 12)])
         self.assertEqual((outside.time, outside.truth("eva")), (0, EVA))
 
     def test_no_source_then_no_subject(self):
@@ -249,11 +259,13 @@ class PromiseTest(unittest.TestCase):
             self.assertTrue(same(outside.truth("eva"), (other,)))
 
     def test_the_first_source_in_their_sequence(self):
-        program = Program("round 0\nsource d price 1\n  x yes\nsource c price 1\n  x yes\nsource b price 1\n  x yes\ndecide go if b.x\notherwise halt")
+        program = Program("round 0\nsource d price 1\n  x yes\nsource c price 1\n  x yes\nsource b price 1\n  x yes\n"
+                          "decide go if b.x\notherwise halt")
         outside = Outside(program, (("eva", (NO, NO, NO)),))
         for source in ("b", "c"):
             outside.ask(source, "eva")
-        for world, first in (((YES, YES, YES), "c"), ((NO, YES, YES), "c"), ((YES, NO, YES), "b"), ((YES, YES, NO), "c")):
+        for world, first in (((YES, YES, YES), "c"), ((NO, YES, YES), "c"), ((YES, NO, YES), "b"),
+                             ((YES, YES, NO), "c")):
             self.assertEqual(raised(TooSoon, outside.put, "eva", world), first)
         outside.put("eva", (YES, NO, NO))
         outside.ask("d", "eva")
@@ -277,7 +289,8 @@ class PutTest(unittest.TestCase):
             self.assertTrue(same(raised(NoSubject, outside.put, value, bad), value))
             self.assertTrue(same(raised(NoSubject, outside.put, value, EVA), value))
             self.assertTrue(same(raised(BadWorld, outside.put, "eva", value), value))
-        for world in (bad, changed(EVA, 2, NO), changed(changed(EVA, 2, NO), 0, (21, "inside")), changed(EVA, 0, (121, "inside")),
+        for world in (bad, changed(EVA, 2, NO), changed(changed(EVA, 2, NO), 0, (21, "inside")),
+                      changed(EVA, 0, (121, "inside")),
                       changed(EVA, 1, (5, 1)), changed(EVA, 0, None), EVA[:2], [*EVA], (*EVA, YES)):
             self.assertTrue(same(raised(BadWorld, outside.put, "eva", world), world))
         self.assertEqual(raised(TooSoon, outside.put, "eva", changed(EVA, 0, (21, "inside"))), "person")
@@ -311,7 +324,8 @@ class PutCommonTest(unittest.TestCase):
         self.assertEqual(state(outside), before)
 
     def test_answers_that_make_no_world_of_some_subject(self):
-        program = Program("round 0\nsource a price 1\n  x yes\nsource k price 1 common\n  x yes\ngiven a.x or not k.x\notherwise halt")
+        program = Program("round 0\nsource a price 1\n  x yes\nsource k price 1 common\n  x yes\n"
+                          "given a.x or not k.x\notherwise halt")
         outside = Outside(program, (("eva", (YES, NO)), ("tom", (NO, NO))))
         self.assertEqual(raised(BadAnswers, outside.put_common, "k", YES), YES)
         outside.ask("k", "eva")
@@ -375,8 +389,8 @@ class AgainstTheWordsTest(unittest.TestCase):
         self.assertGreater(min(seen.values()), 40)
 
     def promised(self, part, name):
-        return any(source == part.name and (part.common or subject == name) and (part.stay is None or self.time <= at + part.stay)
-                   for source, subject, at in self.asked)
+        times = [at for source, subject, at in self.asked if source == part.name and (part.common or subject == name)]
+        return any(part.stay is None or self.time <= at + part.stay for at in times)
 
     def step(self, draw, name):
         part = draw.choice(self.program.parts)
@@ -397,7 +411,8 @@ class AgainstTheWordsTest(unittest.TestCase):
         else:
             world = draw.choice(drawing.all_answers(self.program))
             if draw.random() < 0.7:
-                world = tuple(now if one.common else answer for one, now, answer in zip(self.program.parts, self.worlds[name], world))
+                world = tuple(now if one.common else answer for one, now,
+                              answer in zip(self.program.parts, self.worlds[name], world))
             return self.put(name, world)
         return None
 

@@ -12,7 +12,8 @@ from samples import BOTH, LOAN, any_values, raised, same
 
 BOTH_PROGRAM, LOAN_PROGRAM = Program(BOTH), Program(LOAN)
 BOTH_TABLE = ("a.x", (((False,), "refuse"), ((True,), ("b.x", (((False,), "refuse"), ((True,), "grant"))))))
-LOAN_WITHOUT_MARKET = LOAN.replace("\nsource market price 1 stay 0 common\n  open yes", "").replace(" and market.open", "")
+LOAN_WITHOUT_MARKET = LOAN.replace("\nsource market price 1 stay 0 common\n  open yes", "").replace(" and market.open",
+    "")
 MIXED = ("round 0\nsource a price 1\n  n 0..9\n  w lo mid hi far\n  b yes\nsource m price 1 maybe\n  x yes\n  k -2..2\n"
          "source c price 1\n  x yes\n")
 
@@ -63,7 +64,8 @@ class Naive:
         if len(branches) == 1:
             return branches[0][1]
         ends = field.kind == "integer"
-        return (field.name, tuple(((values[0], values[-1]) if ends else tuple(values), further) for values, further in branches))
+        return (field.name, tuple(((values[0], values[-1]) if ends else tuple(values), further) for values,
+                                  further in branches))
 
 
 def naive(program):
@@ -169,10 +171,12 @@ class TableTest(unittest.TestCase):
     def test_ranges(self):
         for rule, expected in (
             ("a.n > 4", (((0, 4), "halt"), ((5, 9), "go"))), ("a.n < 4", (((0, 3), "go"), ((4, 9), "halt"))),
-            ("a.n = 4", (((0, 3), "halt"), ((4, 4), "go"), ((5, 9), "halt"))), ("a.n = 0", (((0, 0), "go"), ((1, 9), "halt"))),
+            ("a.n = 4", (((0, 3), "halt"), ((4, 4), "go"), ((5, 9), "halt"))),
+            ("a.n = 0", (((0, 0), "go"), ((1, 9), "halt"))),
             ("a.n = 9", (((0, 8), "halt"), ((9, 9), "go"))), ("a.n > 8", (((0, 8), "halt"), ((9, 9), "go"))),
             ("a.n = 4 or a.n = 5", (((0, 3), "halt"), ((4, 5), "go"), ((6, 9), "halt"))),
-            ("a.n = 4 or a.n = 6", (((0, 3), "halt"), ((4, 4), "go"), ((5, 5), "halt"), ((6, 6), "go"), ((7, 9), "halt"))),
+            ("a.n = 4 or a.n = 6", (((0, 3), "halt"), ((4, 4), "go"), ((5, 5), "halt"), ((6, 6), "go"),
+                                    ((7, 9), "halt"))),
             ("a.n > 2 and a.n < 6", (((0, 2), "halt"), ((3, 5), "go"), ((6, 9), "halt"))),
         ):
             with self.subTest(rule):
@@ -181,11 +185,12 @@ class TableTest(unittest.TestCase):
             self.assertEqual(table(with_rules(f"decide go if {rule}")), outcome_told)
 
     def test_ranges_at_the_bounds_of_integers(self):
-        program = Program("round 0\nsource a price 1\n  n -1000000..1000000\ndecide go if a.n = -1000000 or a.n > 999999\notherwise no"
-                          .replace("otherwise no", "otherwise halt"))
+        program = Program("round 0\nsource a price 1\n  n -1000000..1000000\n"
+                          "decide go if a.n = -1000000 or a.n > 999999\notherwise halt")
         ends = (((-1000000, -1000000), "go"), ((-999999, 999999), "halt"), ((1000000, 1000000), "go"))
         self.assertTrue(same(table(program), ("a.n", ends)))
-        self.assertEqual(table(Program("round 0\nsource a price 1\n  n 7..7\ndecide go if a.n = 7\notherwise halt")), "go")
+        self.assertEqual(table(Program("round 0\nsource a price 1\n  n 7..7\ndecide go if a.n = 7\notherwise halt")),
+                         "go")
 
     def test_words(self):
         for rule, expected in (
@@ -220,7 +225,8 @@ class TableTest(unittest.TestCase):
 
     def test_rows_do_not_matter(self):
         program = with_rules("decide go if a.b", "decide go if c.x", "decide halt if a.n > 3")
-        self.assertEqual(table(program), ("a.b", (((False,), ("c.x", (((False,), "halt"), ((True,), "go")))), ((True,), "go"))))
+        self.assertEqual(table(program),
+                         ("a.b", (((False,), ("c.x", (((False,), "halt"), ((True,), "go")))), ((True,), "go"))))
 
     def test_drawn_programs(self):
         draw = random.Random(21)
@@ -238,12 +244,14 @@ class TableTest(unittest.TestCase):
         for name in "abcde":
             lines += [f"source {name} price 1 maybe", "  x yes", "  n 0..9", "  y yes", "  w lo hi"]
         program = Program("\n".join([*lines, "decide go if there a and not there e", "otherwise halt"]))
-        self.assertEqual(table(program), ("a", (((False,), "halt"), ((True,), ("e", (((False,), "go"), ((True,), "halt")))))))
+        self.assertEqual(table(program),
+                         ("a", (((False,), "halt"), ((True,), ("e", (((False,), "go"), ((True,), "halt")))))))
         lines = ["round 0"] + [line for name in "ab" for line in
                                (f"source {name} price 1", "  n 0..9", "  m 0..9", "  k 0..9", "  l 0..9")]
         names = [f"{name}.{field}" for name in "ab" for field in "nmkl"]
         odd = f"points({', '.join(f'{2 ** at % 7 + 1} {name} = 5' for at, name in enumerate(names))})"
-        program = Program("\n".join([*lines, f"decide go if {odd} > 11", f"decide stop if {odd} = 7", "otherwise halt"]))
+        program = Program("\n".join([*lines, f"decide go if {odd} > 11", f"decide stop if {odd} = 7",
+                                     "otherwise halt"]))
         found = table(program)
         draw = random.Random(22)
         for _ in range(300):
@@ -268,15 +276,19 @@ class IsTableTest(unittest.TestCase):
                 self.assertFalse(is_table(BOTH_PROGRAM, ("a.x", (BOTH_TABLE[1][0], value))))
                 self.assertFalse(is_table(BOTH_PROGRAM, ("a.x", ((value, "go"), ((True,), "halt")))))
                 self.assertFalse(is_table(BOTH_PROGRAM, ("a.x", (((False,), "go"), (value, "halt")))))
-                self.assertFalse(is_table(BOTH_PROGRAM, ("a.x", (((value,), "go"), ((True,), "halt")))) and value is not False)
-                self.assertFalse(is_table(BOTH_PROGRAM, ("a.x", (((False,), "go"), ((value,), "halt")))) and value is not True)
+                self.assertFalse(is_table(BOTH_PROGRAM,
+                                          ("a.x", (((value,), "go"), ((True,), "halt")))) and value is not False)
+                self.assertFalse(is_table(BOTH_PROGRAM,
+                                          ("a.x", (((False,), "go"), ((value,), "halt")))) and value is not True)
                 branch = ("a.x", (((False,), value), ((True,), "halt")))
                 self.assertEqual(is_table(BOTH_PROGRAM, branch), value is None or same(value, "a"))
 
     def test_bools(self):
         for values in (
-            ((False,), (True,)), ((True,), (False,)), ((False,),), ((True,),), ((0,), (1,)), ((False,), (1,)), ((0,), (True,)),
-            (False, True), ([False], [True]), ((False, True),), ((False, False), (True, True)), ((False,), (True,), (True,)),
+            ((False,), (True,)), ((True,), (False,)), ((False,),), ((True,),), ((0,), (1,)), ((False,), (1,)),
+            ((0,), (True,)),
+            (False, True), ([False], [True]), ((False, True),), ((False, False), (True, True)),
+            ((False,), (True,), (True,)),
             ((False,), (False,)), ((), (True,)), ((False, True), (True, False)), (("no",), ("yes",)),
         ):
             value = ("a.x", tuple((one, f"o{'abc'[at]}") for at, one in enumerate(values)))
@@ -289,9 +301,11 @@ class IsTableTest(unittest.TestCase):
         for ranges, right in (
             (((0, 4), (5, 9)), True), (((0, 0), (1, 8), (9, 9)), True), (((0, 9),), False), (((0, 4), (6, 9)), False),
             (((0, 5), (5, 9)), False), (((0, 4), (5, 8)), False), (((1, 4), (5, 9)), False), (((0, 4), (5, 10)), False),
-            (((-1, 4), (5, 9)), False), (((5, 9), (0, 4)), False), (((0, 4), (5, 4), (5, 9)), False), (((0, -1), (0, 9)), False),
+            (((-1, 4), (5, 9)), False), (((5, 9), (0, 4)), False), (((0, 4), (5, 4), (5, 9)), False),
+            (((0, -1), (0, 9)), False),
             (((0, 4), (5, 9), (10, 10)), False), (((False, 4), (5, 9)), False), (((0, True), (2, 9)), False),
-            (((0, 4), [5, 9]), False), (((0, 4), (5, 9, 9)), False), (((0, 4), (5,)), False), (((0, 4), ("5", "9")), False),
+            (((0, 4), [5, 9]), False), (((0, 4), (5, 9, 9)), False), (((0, 4), (5,)), False),
+            (((0, 4), ("5", "9")), False),
             (((0, 4), None), False), ((), False), (((0, 4), (5, 9), (10, 9)), False),
         ):
             value = ("a.n", tuple((one, f"o{'abc'[at]}") for at, one in enumerate(ranges)))
@@ -307,23 +321,32 @@ class IsTableTest(unittest.TestCase):
         further = ("a.b", (((False,), "go"), ((True,), "halt")))
         other = ("a.b", (((False,), "go"), ((True,), "stop")))
         self.assertTrue(is_table(program, ("a.n", (((0, 4), further), ((5, 9), other)))))
-        self.assertFalse(is_table(program, ("a.n", (((0, 4), further), ((5, 9), ("a.b", (((False,), "go"), ((True,), "halt"))))))))
+        self.assertFalse(is_table(program,
+                                  ("a.n", (((0, 4), further),
+                                           ((5, 9), ("a.b", (((False,), "go"), ((True,), "halt"))))))))
 
     def test_words(self):
         program = with_rules()
         for sets, right in (
-            ((("lo", "mid"), ("hi", "far")), True), ((("lo", "far"), ("mid", "hi")), True), ((("lo",), ("mid",), ("hi",), ("far",)), True),
-            ((("lo",), ("hi", "far"), ("mid",)), False), ((("mid", "lo"), ("hi", "far")), False), ((("lo", "mid", "hi", "far"),), False),
-            ((("lo", "mid"), ("hi",)), False), ((("lo", "mid", "mid"), ("hi", "far")), False), ((("lo", "mid"), ("mid", "hi", "far")), False),
-            ((("mid", "hi", "far"), ("lo",)), False), ((("lo", "mid"), ("hi", "far"), ()), False), (((), ("lo", "mid", "hi", "far")), False),
-            ((("lo", "mid"), ("hi", "fur")), False), ((["lo", "mid"], ["hi", "far"]), False), ((("lo", "mid"), ("hi", "far", "x")), False),
-            (("lo", ("mid", "hi", "far")), False), ((("lo", "mid"), ("hi", "far", 3)), False), (("lomid", "hifar"), False),
+            ((("lo", "mid"), ("hi", "far")), True), ((("lo", "far"), ("mid", "hi")), True),
+            ((("lo",), ("mid",), ("hi",), ("far",)), True),
+            ((("lo",), ("hi", "far"), ("mid",)), False), ((("mid", "lo"), ("hi", "far")), False),
+            ((("lo", "mid", "hi", "far"),), False),
+            ((("lo", "mid"), ("hi",)), False), ((("lo", "mid", "mid"), ("hi", "far")), False),
+            ((("lo", "mid"), ("mid", "hi", "far")), False),
+            ((("mid", "hi", "far"), ("lo",)), False), ((("lo", "mid"), ("hi", "far"), ()), False),
+            (((), ("lo", "mid", "hi", "far")), False),
+            ((("lo", "mid"), ("hi", "fur")), False), ((["lo", "mid"], ["hi", "far"]), False),
+            ((("lo", "mid"), ("hi", "far", "x")), False),
+            (("lo", ("mid", "hi", "far")), False), ((("lo", "mid"), ("hi", "far", 3)), False),
+            (("lomid", "hifar"), False),
         ):
             value = ("a.w", tuple((one, f"o{'abcd'[at]}") for at, one in enumerate(sets)))
             with self.subTest(sets):
                 self.assertEqual(is_table(program, value), right)
         sets = (("lo",), ("mid",), ("hi", "far"))
-        for outcomes, right in ((("go", "halt", "go"), False), (("go", "go", "halt"), False), (("go", "halt", "stop"), True)):
+        for outcomes, right in ((("go", "halt", "go"), False), (("go", "go", "halt"), False),
+                                (("go", "halt", "stop"), True)):
             self.assertEqual(is_table(program, ("a.w", tuple(zip(sets, outcomes)))), right)
 
     def test_a_test_that_is_left_in(self):
@@ -343,14 +366,20 @@ class IsTableTest(unittest.TestCase):
         for value, right in (
             (on("a.b", "go", on("c.x", "go", "halt")), True), (on("c.x", "go", on("a.b", "go", "halt")), False),
             (on("a.b", "go", on("a.b", "go", "halt")), False), (on("m", "go", on("m.x", "go", "halt")), True),
-            (on("m", on("m.x", "go", "halt"), "go"), False), (on("m.x", "go", "halt"), False), (on("m.x", "go", on("m", "go", "halt")), False),
+            (on("m", on("m.x", "go", "halt"), "go"), False), (on("m.x", "go", "halt"), False),
+            (on("m.x", "go", on("m", "go", "halt")), False),
             (on("m", on("c.x", "go", "halt"), on("m.x", "go", on("c.x", "halt", "go"))), True),
-            (on("m", "go", on("c.x", "go", on("m.x", "go", "halt"))), False), (on("m", "go", on("m", "go", "halt")), False),
-            (on("a.b", "go", on("m.x", "go", "halt")), False), (on("a.b", "go", on("m", "halt", on("m.x", "go", "halt"))), True),
-            (on("a", "go", "halt"), False), (on("c", "go", "halt"), False), (on("x", "go", "halt"), False), (on("m.z", "go", "halt"), False),
+            (on("m", "go", on("c.x", "go", on("m.x", "go", "halt"))), False),
+            (on("m", "go", on("m", "go", "halt")), False),
+            (on("a.b", "go", on("m.x", "go", "halt")), False), (on("a.b", "go",
+                on("m", "halt", on("m.x", "go", "halt"))), True),
+            (on("a", "go", "halt"), False), (on("c", "go", "halt"), False), (on("x", "go", "halt"), False),
+            (on("m.z", "go", "halt"), False),
             (on("m", "go", ("m.k", (((-2, 0), on("m.x", "go", "halt")), ((1, 2), "go")))), False),
             (on("m", "go", on("m.x", "go", ("m.k", (((-2, 0), "go"), ((1, 2), "halt"))))), True),
             (on("a.n", "go", "halt"), False), (on("a.w", "go", "halt"), False),
+            (on("m", ("m.k", (((-2, 0), "go"), ((1, 2), "halt"))), "stop"), False),
+            (on("m", on("c.x", "go", "halt"), "stop"), True),
         ):
             with self.subTest(value):
                 self.assertEqual(is_table(program, value), right)
@@ -370,8 +399,10 @@ class IsTableTest(unittest.TestCase):
                 self.assertFalse(is_table(program, value))
 
     def test_parts_missing_and_added(self):
-        for value in (("a.x",), ("a.x", BOTH_TABLE[1], None), ("a.x", ()), ("a.x", BOTH_TABLE[1][:1]), ("a.x", (*BOTH_TABLE[1], BOTH_TABLE[1][1])),
-                      ("a.x", (((False,),), ((True,), "go"))), ("a.x", (((False,), "go", "go"), ((True,), "halt"))), ("a.x", None), (None, BOTH_TABLE[1])):
+        for value in (("a.x",), ("a.x", BOTH_TABLE[1], None), ("a.x", ()), ("a.x", BOTH_TABLE[1][:1]),
+                      ("a.x", (*BOTH_TABLE[1], BOTH_TABLE[1][1])),
+                      ("a.x", (((False,),), ((True,), "go"))), ("a.x", (((False,), "go", "go"), ((True,), "halt"))),
+                      ("a.x", None), (None, BOTH_TABLE[1])):
             with self.subTest(value):
                 self.assertFalse(is_table(BOTH_PROGRAM, value))
 
@@ -431,16 +462,19 @@ class ByTableTest(unittest.TestCase):
 
     def test_any_table_over_the_sources(self):
         value = ("a.x", (((False,), ("b.x", (((False,), None), ((True,), "other")))), ((True,), "some")))
-        for answers, expected in ((((False,), (False,)), None), (((False,), (True,)), "other"), (((True,), (False,)), "some")):
+        for answers, expected in ((((False,), (False,)), None), (((False,), (True,)), "other"),
+                                  (((True,), (False,)), "some")):
             self.assertEqual(by_table(BOTH_PROGRAM, value, answers), expected)
         self.assertEqual(by_table(BOTH_PROGRAM, "thing", ((False,), (False,))), "thing")
         self.assertIsNone(by_table(BOTH_PROGRAM, None, ((False,), (False,))))
 
     def test_bad_answers(self):
         found = table(LOAN_PROGRAM)
-        for answers in (*any_values(), ((13, "inside"), None), ((13, "inside"), None, None), ((121, "inside"), None, (True,)),
+        for answers in (*any_values(), ((13, "inside"), None), ((13, "inside"), None, None),
+                        ((121, "inside"), None, (True,)),
                         ((13, "in"), None, (True,)), ((13, "inside"), None, (1,)), ((True, "inside"), None, (True,)),
-                        [(13, "inside"), None, (True,)], ((13, "inside"), (0, False), (True,), ()), ((13, "inside"), (), (True,))):
+                        [(13, "inside"), None, (True,)], ((13, "inside"), (0, False), (True,), ()),
+                        ((13, "inside"), (), (True,))):
             self.assertTrue(same(raised(BadAnswers, by_table, LOAN_PROGRAM, found, answers), answers))
 
     def test_bad_table_comes_first(self):
@@ -453,7 +487,8 @@ class AlikeTest(unittest.TestCase):
     def test_programs_written_otherwise(self):
         for text in (
             BOTH.replace("a.x and b.x", "b.x and a.x"), BOTH.replace("a.x and b.x", "not (not a.x or not b.x)"),
-            BOTH.replace("a.x and b.x", "points(1 a.x, 1 b.x) = 2"), BOTH.replace("decide grant", "rule r a.x\ndecide grant"),
+            BOTH.replace("a.x and b.x", "points(1 a.x, 1 b.x) = 2"), BOTH.replace("decide grant",
+                "rule r a.x\ndecide grant"),
             BOTH.replace("grant if", "refuse if not a.x\ndecide grant if").replace("a.x and b.x", "b.x"),
             BOTH.replace("round 1", "round 9").replace("price 1 stay 0", "price 7 common", 1),
             BOTH.replace(" stay 0", " stay 3"), BOTH.replace("decide", "given a.x or not a.x\ndecide"),
@@ -489,7 +524,8 @@ class AlikeTest(unittest.TestCase):
         right = ((0, "lo", False), None, (True,))
         self.assertIs(shows_unlike(one, other, right), True)
         for value in (*any_values(), right[:2], [*right], ((0, "lo", 0), None, (True,)), ((0, "lo", False), None, (1,)),
-                      ((False, "lo", False), None, (True,)), (*right, ()), ((0, "lo", False), (), (True,)), ((10, "lo", False), None, (True,))):
+                      ((False, "lo", False), None, (True,)), (*right, ()), ((0, "lo", False), (), (True,)),
+                      ((10, "lo", False), None, (True,))):
             self.assertIs(shows_unlike(one, other, value), False)
 
     def test_drawn_programs(self):
@@ -500,7 +536,8 @@ class AlikeTest(unittest.TestCase):
             one, other = drawing.program_with(draw, sources), drawing.program_with(draw, sources)
             if draw.random() < 0.3:
                 other = Program(one.text.replace(" if ", " if not not ").replace("given ", "given true and "))
-            differing = [answers for answers in drawing.all_answers(one) if outcome(one, answers) != outcome(other, answers)]
+            differing = [answers for answers in drawing.all_answers(one) if outcome(one, answers) != outcome(other,
+                answers)]
             found = alike(one, other)
             self.assertEqual(found is None, differing == [])
             self.assertEqual(found is None, same(table(one), table(other)))
@@ -519,7 +556,8 @@ class OtherSourcesTest(unittest.TestCase):
             ("lo mid hi far", "mid lo hi far"), ("lo mid hi far", "lo mid hi"), ("lo mid hi far", "lo mid hi far off"),
             ("  b yes", "  b yes\n  d yes"), ("  b yes", "  d yes"), ("  b yes", "  b 0..1"), ("\n  b yes", ""),
             ("  n 0..9\n  w lo mid hi far", "  w lo mid hi far\n  n 0..9"), ("price 1 maybe", "price 1"),
-            ("source c price 1", "source c price 1 maybe"), ("source c", "source d"), ("source c", "source d price 1\n  x yes\nsource c"),
+            ("source c price 1", "source c price 1 maybe"), ("source c", "source d"),
+            ("source c", "source d price 1\n  x yes\nsource c"),
             ("source c price 1\n  x yes\n", ""),
         ):
             with self.subTest(written):
@@ -544,7 +582,8 @@ class OtherSourcesTest(unittest.TestCase):
         self.check(Program(fields), Program(fields.replace("  x yes\n  y yes", "  y yes\n  x yes")))
 
     def test_what_may_differ(self):
-        for written in (("price 2", "price 3"), ("stay 2", "stay 3"), (" stay 2", ""), (" common", ""), ("maybe", "maybe common"), ("round 1", "round 4")):
+        for written in (("price 2", "price 3"), ("stay 2", "stay 3"), (" stay 2", ""), (" common", ""),
+                        ("maybe", "maybe common"), ("round 1", "round 4")):
             other = Program(LOAN.replace(*written))
             self.assertIsNone(alike(LOAN_PROGRAM, other))
             self.assertIs(shows_unlike(LOAN_PROGRAM, other, None), False)
@@ -578,7 +617,8 @@ class MergedTest(unittest.TestCase):
         self.assertIsNone(found)
 
     def test_clash(self):
-        base, one, other = (with_rules(f"decide {name} if a.n = 7 and m.x and a.w = far") for name in ("go", "stop", "wait"))
+        base, one, other = (with_rules(f"decide {name} if a.n = 7 and m.x and a.w = far") for name in ("go", "stop",
+            "wait"))
         found = raised(Clash, merged, base, one, other)
         self.assertEqual((found[0][:2], found[1][0]), ((7, "far"), True))
         self.assertTrue(all(is_world(program, found) for program in (base, one, other)))
@@ -590,8 +630,6 @@ class MergedTest(unittest.TestCase):
             sources = drawing.source_lines(draw, draw.randint(1, 2))
             base = drawing.program_with(draw, sources)
             one, other = self.changed(draw, base), self.changed(draw, base)
-            if one is None or other is None:
-                continue
             tells = {answers: self.merged_outcome(*[outcome(program, answers) for program in (base, one, other)])
                      for answers in drawing.all_answers(base)}
             clashing = [answers for answers in tells if tells[answers] == "-"]
@@ -603,15 +641,8 @@ class MergedTest(unittest.TestCase):
         self.assertGreater(min(seen.values()), 30)
 
     def changed(self, draw, base):
-        """A program with another first decision for some worlds, None if it is none."""
-        sources = [line for line in base.text.split("\n") if line.startswith(("source", "  "))]
-        line = f"decide {draw.choice(drawing.OUTCOMES)} if {drawing.expression(draw, sources, 2)} and {drawing.leaf(draw, sources)}"
-        lines = base.text.split("\n")
-        at = [at for at, one in enumerate(lines) if one.startswith("decide")][0]
-        try:
-            return Program("\n".join([*lines[:at], line, *lines[at:]]))
-        except ValueError:
-            return None
+        """A program with another first decision for some worlds."""
+        return drawing.varied(draw, base, [line for line in base.text.split("\n") if line.startswith(("source", "  "))])
 
     def merged_outcome(self, base, one, other):
         """What both agree on, or what the one that changed it tells; "-" for a clash."""

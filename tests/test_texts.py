@@ -38,7 +38,8 @@ def deep(asks, last="settled go"):
 
 class NamesTest(unittest.TestCase):
     def test_they_are_defined_here(self):
-        for name, parameter in (("show_facts", "facts"), ("show_known", "known"), ("show_tree", "tree"), ("read_facts", "text"),
+        for name, parameter in (("show_facts", "facts"), ("show_known", "known"), ("show_tree", "tree"),
+                                ("read_facts", "text"),
                                 ("read_known", "text"), ("read_tree", "text")):
             self.assertEqual(getattr(texts, name).__module__, "onlyasked.texts")
             self.assertEqual(list(inspect.signature(getattr(texts, name)).parameters), [parameter])
@@ -77,7 +78,8 @@ class AnyValueTest(unittest.TestCase):
 
 class FactsTest(unittest.TestCase):
     def test_written_and_read_back(self):
-        for pairs in ((), (("a", True),), (("a", 5), ("a.n", -5), ("a.w", "lo"), ("b", False)), (("a.b", 0),), (("a.n", 999999999999),)):
+        for pairs in ((), (("a", True),), (("a", 5), ("a.n", -5), ("a.w", "lo"), ("b", False)), (("a.b", 0),),
+                      (("a.n", 999999999999),)):
             facts = Facts(pairs)
             self.assertEqual(read_facts(show_facts(facts)), facts)
         self.assertEqual(show_facts(read_facts(FACTS)), FACTS)
@@ -85,7 +87,8 @@ class FactsTest(unittest.TestCase):
     def test_numbers(self):
         for number in (0, 7, -7, 10, -10, 999999999999, -999999999999, 100000000000):
             self.assertTrue(same(read_facts(f"a.n {number}").pairs, (("a.n", number),)))
-        for word in ("1000000000000", "-1000000000000", "00", "01", "-0", "-01", "+1", "1.0", "1_0", "--1", "-", "1e3", "0x1", "", " 1", "1 ", "5a", "a5"):
+        for word in ("1000000000000", "-1000000000000", "00", "01", "-0", "-01", "+1", "1.0", "1_0", "--1", "-", "1e3",
+                     "0x1", "", " 1", "1 ", "5a", "a5"):
             self.assertTrue(same(raised(BadText, read_facts, f"a.n {word}"), 0))
 
     def test_words(self):
@@ -109,7 +112,8 @@ class FactsTest(unittest.TestCase):
             self.assertTrue(same(raised(BadText, read_facts, text), 0))
 
     def test_signs_between(self):
-        for text in ("a 1;b 1", "a 1 ; b 1", "a 1;  b 1", "a 1; b  1", "a  1", " a 1", "a 1 ", "a 1;", "a 1; ", "; a 1", "a 1, b 1", "a 1; -", "-; a 1", "a 1 b 1",
+        for text in ("a 1;b 1", "a 1 ; b 1", "a 1;  b 1", "a 1; b  1", "a  1", " a 1", "a 1 ", "a 1;", "a 1; ", "; a 1",
+                     "a 1, b 1", "a 1; -", "-; a 1", "a 1 b 1",
                      "a", "a 1 1", "a=1", "- -", "a 1; b 1;", "a yes for 1"):
             self.assertTrue(same(raised(BadText, read_facts, text), 0))
 
@@ -134,14 +138,17 @@ class KnownTest(unittest.TestCase):
             self.assertTrue(same(raised(BadText, read_known, f"a yes for {word}"), 0))
 
     def test_forms(self):
-        for text in ("a yes", "a yes 1", "a yes for", "a for 1", "a yes For 1", "a yes for 1 for 1", "yes for 1", "a yes fur 1", "a yes  for 1", "a yes for  1",
-                     "a yes for 1; b yes", "a yes for 1; a yes for 1", "b yes for 1; a yes for 1", "a yes for 1;b yes for 1", "a yes for 1;  b yes for 1"):
+        for text in ("a yes", "a yes 1", "a yes for", "a for 1", "a yes For 1", "a yes for 1 for 1", "yes for 1",
+                     "a yes fur 1", "a yes  for 1", "a yes for  1",
+                     "a yes for 1; b yes", "a yes for 1; a yes for 1", "b yes for 1; a yes for 1",
+                     "a yes for 1;b yes for 1", "a yes for 1;  b yes for 1"):
             self.assertTrue(same(raised(BadText, read_known, text), 0))
 
 
 class TreeTest(unittest.TestCase):
     def test_settled(self):
-        for word, result in (("grant", "grant"), ("0", 0), ("12", 12), ("999999999999", 999999999999), ("yes", "yes"), ("none", "none"), ("no", "no"), ("x" * 12, "x" * 12)):
+        for word, result in (("grant", "grant"), ("0", 0), ("12", 12), ("999999999999", 999999999999), ("yes", "yes"),
+                             ("none", "none"), ("no", "no"), ("x" * 12, "x" * 12)):
             self.assertTrue(same(read_tree(f"settled {word}"), ("settled", result)))
             self.assertEqual(show_tree(("settled", result)), f"settled {word}")
         for word in ("-1", "01", "-0", "1000000000000", "x" * 13, "", "a.b", "Go", "go go", "1 2", "-"):
@@ -149,21 +156,26 @@ class TreeTest(unittest.TestCase):
 
     def test_answers(self):
         for written, answers in (
-            ("yes", ((True,),)), ("none", (None,)), ("none none", (("none", "none"),)), ("1 none", ((1, "none"),)), ("-5 lo no", ((-5, "lo", False),)),
+            ("yes", ((True,),)), ("none", (None,)), ("none none", (("none", "none"),)), ("1 none", ((1, "none"),)),
+            ("-5 lo no", ((-5, "lo", False),)),
             ("5 5 5 5 5", ((5, 5, 5, 5, 5),)), ("true", (("true",),)),
         ):
             text = f"ask a\nwhen {written}\n  settled go"
             self.assertTrue(same(read_tree(text), ("ask", ("a",), ((answers, ("settled", "go")),))))
             self.assertEqual(show_tree(read_tree(text)), text)
         text = "ask a b c\nwhen none / 1 no / lo\n  settled 0"
-        self.assertTrue(same(read_tree(text), ("ask", ("a", "b", "c"), (((None, (1, False), ("lo",)), ("settled", 0)),))))
-        for written in ("yes / no", "", "/", "yes /", "/ yes", "yes/no", "yes / / no", "01", "1000000000000", "x" * 13, "-0", "Yes", "yes  no", " yes", "yes ", "-"):
+        self.assertTrue(same(read_tree(text),
+                             ("ask", ("a", "b", "c"), (((None, (1, False), ("lo",)), ("settled", 0)),))))
+        for written in ("yes / no", "", "/", "yes /", "/ yes", "yes/no", "yes / / no", "01", "1000000000000", "x" * 13,
+                        "-0", "Yes", "yes  no", " yes", "yes ", "-"):
             self.assertTrue(same(raised(BadText, read_tree, f"ask a\nwhen {written}\n  settled go"), 1))
 
     def test_as_many_answers_as_names(self):
-        for names, written, line in (("a b", "yes", 1), ("a b", "yes / no / yes", 1), ("a", "yes / no", 1), ("a b", "yes / no", None)):
+        for names, written, line in (("a b", "yes", 1), ("a b", "yes / no / yes", 1), ("a", "yes / no", 1),
+                                     ("a b", "yes / no", None)):
             text = f"ask {names}\nwhen {written}\n  settled go"
-            self.assertEqual(show_tree(read_tree(text)) == text if line is None else raised(BadText, read_tree, text), line or True)
+            self.assertEqual(show_tree(read_tree(text)) == text if line is None else raised(BadText, read_tree, text),
+                             line or True)
         self.assertEqual(raised(BadText, read_tree, "ask a b\nwhen yes / no\n  settled go\nwhen no\n  settled go"), 3)
 
     def test_names_of_sources(self):
@@ -201,7 +213,8 @@ class TreeTest(unittest.TestCase):
                 self.assertEqual(raised(BadText, read_tree, text), at)
 
     def test_lines_behind_the_end(self):
-        for text, line in (("settled go\n", 1), ("settled go\nsettled go", 1), (f"{ASK}\n", 5), (f"{ASK}\nsettled go", 5), (f"{ASK}\n  settled go", 5), ("settled go\nwhen yes", 1)):
+        for text, line in (("settled go\n", 1), ("settled go\nsettled go", 1), (f"{ASK}\n", 5),
+                           (f"{ASK}\nsettled go", 5), (f"{ASK}\n  settled go", 5), ("settled go\nwhen yes", 1)):
             self.assertEqual(raised(BadText, read_tree, text), line)
 
     def test_sixty_asks_in_one_another(self):
@@ -218,7 +231,8 @@ class TreeTest(unittest.TestCase):
                 tree = plan(Program(text), Known(), rows=rows).tree
                 self.assertTrue(same(read_tree(show_tree(tree)), tree))
         self.assertEqual(show_tree(plan(Program(BOTH), Known()).tree), "\n".join([
-            "ask a b", "when no / no", "  settled refuse", "when no / yes", "  settled refuse", "when yes / no", "  settled refuse", "when yes / yes", "  settled grant"]))
+            "ask a b", "when no / no", "  settled refuse", "when no / yes", "  settled refuse", "when yes / no",
+            "  settled refuse", "when yes / yes", "  settled grant"]))
 
     def test_trees_of_drawn_programs(self):
         draw = random.Random(51)
@@ -265,7 +279,8 @@ class ByForms:
         items = self.items(first, f"{self.NAME} {self.VALUE} for (?:[0-3]|ever)")
         if items is None or more:
             return 0 if items is None else 1
-        return Known(tuple((name, self.value(word), None if life == "ever" else int(life)) for name, word, _, life in items))
+        return Known(tuple((name, self.value(word), None if life == "ever" else int(life)) for name, word, _,
+                           life in items))
 
     def tree_line(self, text):
         """The line at which a tree is not well written, None if it is."""
@@ -274,9 +289,9 @@ class ByForms:
         for at, line in enumerate(lines):
             blanks = len(line) - len(line.lstrip(" "))
             told = line[blanks:]
-            while stack and stack[-1][0] == "more" and not (told.startswith("when ") and blanks == 2 * stack[-1][1]) and told != "when":
-                stack.pop()
-            while stack and stack[-1][0] == "more" and blanks != 2 * stack[-1][1]:
+            # A branch more, if it is one of an ask that stands as deep; all others are at their end.
+            is_branch = told.split(" ")[0] == "when"
+            while stack and stack[-1][0] == "more" and not (is_branch and blanks == 2 * stack[-1][1]):
                 stack.pop()
             if not stack or blanks != 2 * stack[-1][1]:
                 return at
@@ -297,7 +312,8 @@ class ByForms:
 
 class ChangedTextsTest(unittest.TestCase):
     SIGNS = "abyn019 -;./\n"
-    WORDS = ("yes", "no", "none", "for", "ever", "-", "/", ";", "0", "3", "4", "-1", "lo", "ask", "when", "settled", "a", "a.x", "b", "", "  ", "1000000000000", "x" * 13)
+    WORDS = ("yes", "no", "none", "for", "ever", "-", "/", ";", "0", "3", "4", "-1", "lo", "ask", "when", "settled",
+             "a", "a.x", "b", "", "  ", "1000000000000", "x" * 13)
 
     def changed(self, draw, text):
         kind = draw.randrange(7)
@@ -325,7 +341,8 @@ class ChangedTextsTest(unittest.TestCase):
         draw = random.Random(52)
         forms = ByForms()
         seen = {True: 0, False: 0}
-        for text, reader, expected in ((FACTS, read_facts, forms.facts), (KNOWN, read_known, forms.known), ("a 1; b no", read_facts, forms.facts)):
+        for text, reader, expected in ((FACTS, read_facts, forms.facts), (KNOWN, read_known, forms.known),
+                                       ("a 1; b no", read_facts, forms.facts)):
             for _ in range(2500):
                 other = self.changed(draw, text if draw.random() < 0.8 else self.changed(draw, text))
                 found = read(reader, other)
@@ -339,7 +356,9 @@ class ChangedTextsTest(unittest.TestCase):
         draw = random.Random(53)
         forms = ByForms()
         seen = {True: 0, False: 0}
-        whole = [ASK, show_tree(plan(Program(POINTER), Known()).tree), "ask a bb\nwhen none / 5 lo\n  ask c\n  when -7\n    settled 0\n  when no\n    settled 12\nwhen yes / none\n  settled no"]
+        whole = [ASK, show_tree(plan(Program(POINTER), Known()).tree),
+                 "ask a bb\nwhen none / 5 lo\n  ask c\n  when -7\n    settled 0\n  when no\n    settled 12\n"
+                 "when yes / none\n  settled no"]
         for text in whole:
             for _ in range(2500):
                 other = self.changed(draw, text if draw.random() < 0.8 else self.changed(draw, text))

@@ -19,16 +19,23 @@ from samples import raised, same
 PACKAGE = Path(__file__).resolve().parent.parent / "onlyasked"
 WORDS = ("ok", "ok", "ok", "lost", "late", "twice", "down", "crash")
 INTERFACE = {
-    "errors": "AskError BadProgram Doubled Unnamed RingOfRules TooLarge NoWorld BadWorld NoName BadFact BadFacts Unlike Impossible Settled Open BadAnswers OtherSources BadTable Clash "
-              "BadWorlds NoSubject NoSource TooSoon Begun NoCase NoPage NothingToUndo BadText OtherTime BadLine",
+    "errors": "AskError BadProgram Doubled Unnamed RingOfRules TooLarge NoWorld BadWorld NoName BadFact BadFacts "
+              "Unlike Impossible Settled Open BadAnswers OtherSources BadTable Clash BadWorlds NoSubject NoSource "
+              "TooSoon Begun NoCase NoPage NothingToUndo BadText OtherTime BadLine",
     "programs": "Program", "worlds": "is_world evaluate", "marks": "marks mark_of worlds", "facts": "Facts",
-    "settling": "possible conflict settled parting kept shows_conflict shows_parting shows_kept", "standings": "Known", "plans": "Plan plan shows_tree shows_plan",
-    "answerers": "answerer shows_answerer", "tables": "alike shows_unlike table by_table merged", "outside": "Outside", "house": "House", "book": "Page",
-    "texts": "show_facts show_known show_tree read_facts read_known read_tree", "housetexts": "show_house read_house", "desk": "Desk",
+    "settling": "possible conflict settled parting kept shows_conflict shows_parting shows_kept", "standings": "Known",
+    "plans": "Plan plan shows_tree shows_plan",
+    "answerers": "answerer shows_answerer", "tables": "alike shows_unlike table by_table merged", "outside": "Outside",
+    "house": "House", "book": "Page",
+    "texts": "show_facts show_known show_tree read_facts read_known read_tree", "housetexts": "show_house read_house",
+    "desk": "Desk",
 }
 METHODS = {
-    "Facts": "__init__ __getitem__ __contains__ __len__ __or__ __eq__ only", "Known": "__init__ __eq__ life later answered", "Plan": "__bool__ behind ways", "Program": "__init__ __eq__",
-    "Outside": "__init__ truth ask put put_common release tick copy", "House": "__init__ begin standing told go page rest revise news again undo trial tried", "Page": "__init__", "Desk": "__init__ say",
+    "Facts": "__init__ __getitem__ __contains__ __len__ __or__ __eq__ only",
+    "Known": "__init__ __eq__ life later answered", "Plan": "__bool__ behind ways", "Program": "__init__ __eq__",
+    "Outside": "__init__ truth ask put put_common release tick copy",
+    "House": "__init__ begin standing told go page rest revise news again undo trial tried", "Page": "__init__",
+    "Desk": "__init__ say",
 }
 
 
@@ -40,7 +47,8 @@ class InterfaceTest(unittest.TestCase):
             for name in names.split():
                 with self.subTest(f"{module}.{name}"):
                     self.assertIn(name, defined)
-                    self.assertEqual(getattr(importlib.import_module(f"onlyasked.{module}"), name).__module__, f"onlyasked.{module}")
+                    self.assertEqual(getattr(importlib.import_module(f"onlyasked.{module}"), name).__module__,
+                                     f"onlyasked.{module}")
                     own = [node.name for node in defined[name].body if isinstance(node, ast.FunctionDef)]
                     for method in METHODS.get(name, "").split():
                         self.assertIn(method, own)
@@ -76,8 +84,8 @@ class History:
         self.seen[word] = self.seen.get(word, 0) + many
 
     def step(self):
-        kinds = (self.begin,) * 3 + (self.go,) * 8 + (self.tick,) + (self.put,) * 3 + (self.change,) * 3 + (self.news,) + (self.revise,) * 3 + (self.undo,) * 2 + (self.again,)
-        kind = self.draw.choice(kinds)
+        kinds = [self.begin] * 3 + [self.go] * 8 + [self.tick, self.news, self.again] + [self.put] * 3
+        kind = self.draw.choice(kinds + [self.change] * 3 + [self.revise] * 3 + [self.undo] * 2)
         before = show_house(self.house)
         if self.draw.random() < 0.2:
             held = self.house.tried(lambda one: one)
@@ -115,7 +123,8 @@ class History:
         """Another truth, as far as it is not promised."""
         truth = self.house.outside.truth(name)
         world = self.draw.choice(drawing.all_worlds(self.house.program))
-        world = tuple(now if part.common or self.draw.random() < 0.5 else answer for part, now, answer in zip(self.house.program.parts, truth, world))
+        world = tuple(now if part.common or self.draw.random() < 0.5 else answer for part, now,
+                      answer in zip(self.house.program.parts, truth, world))
         for one in (self.house, self.model):
             try:
                 one.outside.put(name, world)
@@ -155,6 +164,8 @@ class History:
 
     def revise(self, _):
         program = drawing.program_with(self.draw, self.sources)
+        if self.draw.random() < 0.3:
+            program = drawing.varied(self.draw, self.house.program, self.sources)
         bad = self.model.bad_worlds(program)
         if bad:
             self.test.assertTrue(same(raised(BadWorlds, self.house.revise, program), bad))
@@ -186,17 +197,20 @@ class History:
         self.count("undo")
 
     def compare(self):
-        """The house is as the model is, its text tells so, and new decisions are right at this moment (guarantee (a))."""
+        """The house is as the model is, its text tells so, and new decisions are right now (guarantee (a))."""
         self.test.assertEqual(state_of(self.house), state_of(self.model))
         lines = show_house(self.house).split("\n")
         again = [",".join(self.model.again_of(revision)) or "-" for revision in self.model.revisions]
-        self.test.assertEqual([line for line in lines if line.startswith("revised")], [f"revised {names}" for names in again])
-        late = [(source, subject or "-", "ever" if life is None else str(life)) for source, subject, life, _ in late_of(self.model)]
+        self.test.assertEqual([line for line in lines if line.startswith("revised")],
+                              [f"revised {names}" for names in again])
+        late = [(source, subject or "-", "ever" if life is None else str(life)) for source, subject, life,
+                _ in late_of(self.model)]
         self.test.assertEqual([tuple(line.split(" ")[1:4]) for line in lines if line.startswith("coming")], late)
         for page in self.house.pages[self.pages:]:
             truth = self.house.outside.truth(page.subject)
             outcome, row = evaluate(self.house.program, truth)
-            self.test.assertEqual((page.outcome, row if page.row is None else page.row, page.time), (outcome, row, self.house.outside.time))
+            self.test.assertEqual((page.outcome, row if page.row is None else page.row, page.time),
+                                  (outcome, row, self.house.outside.time))
             self.test.assertTrue(good_facts_hold(self.house.program, page, truth))
             settled = {evaluate(self.house.program, world)[0] for world in drawing.all_worlds(self.house.program)
                        if good_facts_hold(self.house.program, page, world)}
@@ -208,14 +222,15 @@ class HistoriesTest(unittest.TestCase):
     def test_drawn_histories(self):
         draw = random.Random(81)
         seen = {}
-        for _ in range(150):
+        for _ in range(200):
             history = History(self, draw)
             for _ in range(25):
                 history.step()
             for word, many in history.seen.items():
                 seen[word] = seen.get(word, 0) + many
-        for word in ("ok", "lost", "late", "twice", "down", "crash", "none", "put", "refused", "opened by news", "again", "stands", "opened", "undo", "decided again"):
-            self.assertGreater(seen.get(word, 0), 20, word)
+        for word in ("ok", "lost", "late", "twice", "down", "crash", "none", "put", "refused", "opened by news",
+                     "again", "stands", "opened", "undo", "decided again"):
+            self.assertGreater(seen.get(word, 0), 15, word)
 
 
 class SpentTest(unittest.TestCase):
@@ -244,7 +259,8 @@ class SpentTest(unittest.TestCase):
 
     def put(self, draw, house, name, world):
         now = house.outside.truth(name)
-        world = tuple(before if part.common or draw.random() < 0.5 else answer for part, before, answer in zip(house.program.parts, now, world))
+        world = tuple(before if part.common or draw.random() < 0.5 else answer for part, before,
+                      answer in zip(house.program.parts, now, world))
         try:
             house.outside.put(name, world)
         except (BadWorld, TooSoon):
