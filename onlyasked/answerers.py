@@ -29,7 +29,7 @@ def sets_to_answer(program, known):
     found = [()]
     for source in sorted(program.sources):
         found = found + [(*some, source) for some in found]
-    return sorted([some for some in found if not all([source in settled for source in some])])
+    return sorted([some for some in found if not all([name in settled for name in some])])
 
 
 def dear_answers(prices, known, sources, left):

@@ -10,7 +10,7 @@ from onlyasked.settling import (
     conflict, kept, parting, possible, settled, shows_conflict, shows_kept, shows_parting,
 )
 from onlyasked.worlds import evaluate, is_world
-from samples import EIGHT, LOAN, any_values, facts_of, raised, same, with_rows
+from samples import EIGHT, LOAN, TWICE, any_values, facts_of, raised, same, with_rows
 
 LOAN_PROGRAM = Program(LOAN)
 TWELVE = facts_of(person_age=12)
@@ -52,6 +52,21 @@ class NamesTest(unittest.TestCase):
         for call in (conflict, shows_conflict):
             with self.assertRaises(TypeError):
                 call(LOAN_PROGRAM, TWELVE, rows=True)
+
+
+    def test_rows_are_left_out_by_default(self):
+        program, one = Program(TWICE), Facts((("a.x", True),))
+        both = Facts((("a.x", True), ("b.x", True)))
+        self.assertEqual((possible(program, one), possible(program, one, rows=True)), (("go",), (0, 1)))
+        self.assertEqual((settled(program, one), settled(program, one, rows=True)), ("go", None))
+        self.assertEqual((kept(program, both), kept(program, both, rows=True)), (one, both))
+        for value, rows, shown in ((one, False, True), (one, True, False), (both, False, False), (both, True, True)):
+            self.assertIs(shows_kept(program, both, value, rows=rows), shown)
+        self.assertIs(shows_kept(program, both, one), True)
+        pair = parting(program, one, rows=True)
+        self.assertIs(shows_parting(program, one, pair, rows=True), True)
+        self.assertEqual(raised(Settled, parting, program, one), "go")
+        self.assertEqual(raised(Settled, shows_parting, program, one, pair), "go")
 
 
 class ExamplesTest(unittest.TestCase):
